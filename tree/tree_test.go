@@ -7,44 +7,13 @@ import (
 	"testing"
 
 	"lectern/api"
+	"lectern/sample"
 )
 
-func doc(kids ...api.Node) api.Node { return api.Node{Kind: api.Document, Kids: kids} }
-
-func elem(local string, kids ...api.Node) api.Node {
-	return api.Node{Kind: api.Element, Name: api.Name{Local: local}, Kids: kids}
-}
-
-func text(s string) api.Node { return api.Node{Kind: api.Text, Text: s} }
-
-func comment(s string) api.Node { return api.Node{Kind: api.Comment, Text: s} }
-
-func instr(name, s string) api.Node {
-	return api.Node{Kind: api.Instr, Name: api.Name{Local: name}, Text: s}
-}
-
-// within is n in a space.
-func within(space string, n api.Node) api.Node {
-	n.Name.URI = space
-	return n
-}
-
-// with is n with attributes of spaces, local names and values by turns.
-func with(n api.Node, words ...string) api.Node {
-	n.Attrs = nil
-	for i := 0; i < len(words); i += 3 {
-		n.Attrs = append(n.Attrs, api.Attr{Name: api.Name{URI: words[i], Local: words[i+1]}, Value: words[i+2]})
-	}
-	return n
-}
-
-// chain is n within that many elements.
-func chain(n api.Node, elements int) api.Node {
-	for range elements {
-		n = elem("a", n)
-	}
-	return n
-}
+var (
+	doc, elem, text, comment, instr = sample.Doc, sample.Elem, sample.Text, sample.Comment, sample.Instr
+	within, with, chain             = sample.In, sample.With, sample.Chain
+)
 
 // rich is a right document in which there is something of all.
 func rich() api.Node {
@@ -122,19 +91,6 @@ func TestP5_2EqualEmpty(t *testing.T) {
 	}
 }
 
-// spoil writes into all lists of a tree, spare room too.
-func spoil(n *api.Node) {
-	kids, attrs := n.Kids[:cap(n.Kids)], n.Attrs[:cap(n.Attrs)]
-	for i := range kids {
-		spoil(&kids[i])
-		kids[i] = text("spoilt")
-	}
-	for i := range attrs {
-		attrs[i].Value = "spoilt"
-		attrs[i].Name.Local = "spoilt"
-	}
-}
-
 func TestP5_2Copy(t *testing.T) {
 	for _, n := range []api.Node{{}, doc(), rich(), example(), with(text("x"), "u", "b", "1"), {Kind: 99, Name: api.Name{URI: "u"}, Text: "x", Kids: []api.Node{rich(), {}}}} {
 		first := Copy(n)
@@ -142,12 +98,12 @@ func TestP5_2Copy(t *testing.T) {
 			t.Errorf("Copy(%+v) = %+v", n, first)
 		}
 		second := Copy(n)
-		spoil(&first)
+		sample.Spoil(first)
 		if !reflect.DeepEqual(second, n) {
 			t.Errorf("a copy of %+v shares memory", n)
 		}
 		third := Copy(second)
-		spoil(&n)
+		sample.Spoil(n)
 		if !reflect.DeepEqual(second, third) {
 			t.Errorf("a copy shares memory with what was handed in: %+v", second)
 		}
@@ -255,7 +211,7 @@ func TestP5_3At(t *testing.T) {
 		if !reflect.DeepEqual(n, c.want) || e != api.OK {
 			t.Errorf("At(%d) = %+v, %d, not %+v", c.path, n, e, c.want)
 		}
-		spoil(&n)
+		sample.Spoil(n)
 		if !Equal(d, rich()) {
 			t.Fatalf("At(%d) answers what was handed in", c.path)
 		}
@@ -353,7 +309,7 @@ func TestP5_3AllMemory(t *testing.T) {
 		}
 	}
 	for i := range told {
-		spoil(&told[i].node)
+		sample.Spoil(told[i].node)
 		_ = append(told[i].path, 77, 77)
 		for k := range told[i].path {
 			told[i].path[k] = 99
@@ -367,13 +323,13 @@ func TestP5_3AllMemory(t *testing.T) {
 	if !Equal(d, rich()) {
 		t.Error("All tells what was handed in")
 	}
-	spoil(&d)
+	sample.Spoil(d)
 	i := 0
 	for path, n := range all {
 		if !slices.Equal(path, want[i].path) || !Equal(n, want[i].node) {
 			t.Fatalf("All keeps what was handed in: %d, %+v", path, n)
 		}
-		spoil(&n)
+		sample.Spoil(n)
 		for k := range path {
 			path[k] = 5
 		}
