@@ -1,7 +1,10 @@
 package tape
 
 import (
+	"slices"
+
 	"lectern/api"
+	"lectern/octet"
 )
 
 const (
@@ -40,34 +43,16 @@ func sectorsOf(size int) int { return max((size+room-1)/room, 1) }
 // lay is the sector with a mark and some of a group's bytes.
 func lay(m mark, p []byte) sector {
 	var s sector
-	put(s[4:8], m.gen)
-	put(s[8:10], m.place)
-	put(s[10:12], m.group)
-	put(s[12:14], m.behind)
-	put(s[14:ahead], len(p))
-	copy(s[ahead:], p)
-	put(s[:4], int(Sum(s[4:])))
+	copy(s[4:], slices.Concat(octet.Bytes(uint64(m.gen), 4), two(m.place), two(m.group), two(m.behind), two(len(p)), p))
+	copy(s[:4], octet.Bytes(uint64(Sum(s[4:])), 4))
 	return s
 }
 
+// two is a number as two bytes.
+func two(v int) []byte { return octet.Bytes(uint64(v), 2) }
+
 // behind is how many sectors of the group stand behind s, as it says itself.
-func (s sector) behind() int { return number(s[12:14]) }
+func (s sector) behind() int { return int(octet.Number(s[12:14])) }
 
 // size is how many of the group's bytes stand in s, as it says itself.
-func (s sector) size() int { return number(s[14:ahead]) }
-
-// put fills b with a number, the highest byte first.
-func put(b []byte, v int) {
-	for i := range len(b) {
-		b[len(b)-1-i] = byte(v >> (8 * i))
-	}
-}
-
-// number is the number that fills b, the highest byte first.
-func number(b []byte) int {
-	v := 0
-	for i := range len(b) {
-		v = v<<8 | int(b[i])
-	}
-	return v
-}
+func (s sector) size() int { return int(octet.Number(s[14:ahead])) }
