@@ -25,19 +25,34 @@ func Put(d *drum.Drum, n int, stamp uint64, p []byte) api.Errno {
 
 // Get reads a page.
 func Get(d *drum.Drum, n int) (p []byte, stamp uint64, e api.Errno) {
-	first, e := firstOf(d, n)
+	b, e := read(d, n)
 	if e != api.OK {
 		return nil, 0, e
+	}
+	return Take(n, b)
+}
+
+// Blank says whether a page is blank; its errors are Get's, but for those of what stands there.
+func Blank(d *drum.Drum, n int) (bool, api.Errno) {
+	b, e := read(d, n)
+	return e == api.OK && isBlank(b), e
+}
+
+// read is the bytes of a page's sectors.
+func read(d *drum.Drum, n int) ([]byte, api.Errno) {
+	first, e := firstOf(d, n)
+	if e != api.OK {
+		return nil, e
 	}
 	var b []byte
 	for i := range sectorsEach {
 		s, e := d.Read(first + i)
 		if e != api.OK {
-			return nil, 0, e
+			return nil, e
 		}
 		b = append(b, s...)
 	}
-	return Take(n, b)
+	return b, api.OK
 }
 
 // PutHead writes a head.

@@ -153,6 +153,43 @@ func TestP15_4Get(t *testing.T) {
 	lookGet(t, d, 2, make([]byte, 496), 9)
 }
 
+// TestBlank: a page is blank just if all bytes of its sectors are 0; what refuses a Get refuses Blank.
+func TestBlank(t *testing.T) {
+	for at := range 512 {
+		d := newDrum(t, 64, 0)
+		lookBlank(t, d, 2, true, api.OK)
+		b := make([]byte, 64)
+		b[at%64] = 1
+		write(t, d, 18+8*2+at/64, b)
+		lookBlank(t, d, 1, true, api.OK)
+		lookBlank(t, d, 2, false, api.OK)
+		lookBlank(t, d, 3, true, api.OK)
+		if d.Loose() != 1 {
+			t.Fatalf("Blank writes")
+		}
+	}
+	d := newDrum(t, 64, 0)
+	look(t, "Put", Put(d, 0, 0, nil), api.OK)
+	lookBlank(t, d, 0, false, api.OK)
+	lookBlank(t, nil, 0, false, api.ErrNil)
+	lookBlank(t, newDrum(t, 63, 0), 0, false, api.ErrArg)
+	for _, n := range []int{-1, 5, math.MinInt, math.MaxInt} {
+		lookBlank(t, d, n, false, api.ErrArg)
+	}
+	for fuse := range 8 {
+		look(t, "Fuse", d.Fuse(fuse), api.OK)
+		lookBlank(t, d, 1, false, api.ErrDown)
+		look(t, "Crash", d.Crash(nil), api.OK)
+	}
+}
+
+func lookBlank(t *testing.T, d *drum.Drum, n int, want bool, wantE api.Errno) {
+	t.Helper()
+	if is, e := Blank(d, n); is != want || e != wantE {
+		t.Fatalf("Blank(%d): %v, %d, not %v, %d", n, is, e, want, wantE)
+	}
+}
+
 // TestP15_4Down: the drum's ErrDown comes where it comes; the Writes ahead of it, in order, are done.
 func TestP15_4Down(t *testing.T) {
 	old, page := modelPage(2, 1, row(496)), modelPage(2, 7, row(300))

@@ -37,8 +37,8 @@ func Sum(p []byte) uint32 {
 	return ^c
 }
 
-// sectorsOf is how many sectors a group of so many bytes takes.
-func sectorsOf(size int) int { return max((size+room-1)/room, 1) }
+// Sectors is how many sectors a group of so many bytes takes.
+func Sectors(size int) int { return (max(size, 1)-1)/room + 1 }
 
 // lay is the sector with a mark and some of a group's bytes.
 func lay(m mark, p []byte) sector {

@@ -290,8 +290,8 @@ func TestP14_2Sizes(t *testing.T) {
 		steps := d.Steps()
 		look(t, "P14.2: Append", tape.Append(row(size)), api.OK)
 		lookRoom(t, tape, 1, 1)
-		if d.Steps()-steps != count || d.Loose() != count {
-			t.Errorf("P14.2: Append of %d: %d steps, %d loose, not %d", size, d.Steps()-steps, d.Loose(), count)
+		if d.Steps()-steps != count || d.Loose() != count || Sectors(size) != count {
+			t.Errorf("P14.2: Append of %d: %d steps, %d loose, Sectors %d, not %d", size, d.Steps()-steps, d.Loose(), Sectors(size), count)
 		}
 		look(t, "P14.2: Append", tape.Append(nil), api.OK)
 		lookRoom(t, tape, 2, 0)
