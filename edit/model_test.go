@@ -85,26 +85,6 @@ func model(d api.Node, e Edit) (api.Node, api.Errno) {
 	return out, api.OK
 }
 
-// drawNode is a node of any kind, sometimes one that isn't right.
-func drawNode(d *sample.Dice) api.Node {
-	switch d.Under(8) {
-	case 0:
-		return sample.Text(d.Of("", "x", "\xff", "y"))
-	case 1:
-		return sample.Comment(d.Of("", "c", "--"))
-	case 2:
-		return sample.Instr(d.Of("i", "xml", "j"), d.Of("", "w", " w"))
-	case 3:
-		return d.Document()
-	case 4:
-		return sample.Chain(sample.Elem("b"), 25+d.Under(10))
-	case 5:
-		return sample.With(sample.Elem("b", sample.Text("x")), "u", "c", d.Text())
-	}
-	l := d.Document().Kids
-	return l[d.Under(len(l))]
-}
-
 // drawEdit is an edit that is often one of d's nodes.
 func drawEdit(dice *sample.Dice, d api.Node) Edit {
 	var paths [][]int
@@ -115,7 +95,7 @@ func drawEdit(dice *sample.Dice, d api.Node) Edit {
 			names = append(names, a.Name)
 		}
 	}
-	e := Edit{Op: 1 + dice.Under(6), At: paths[dice.Under(len(paths))], Text: dice.Text(), Node: drawNode(dice)}
+	e := Edit{Op: 1 + dice.Under(6), At: paths[dice.Under(len(paths))], Text: dice.Text(), Node: dice.Node()}
 	e.Name = api.Name{URI: dice.Of("", "u", "v", "\xff"), Local: dice.Of("a", "b", "c", "", "xmlns")}
 	if len(names) > 0 && dice.OneIn(2) {
 		e.Name = names[dice.Under(len(names))]

@@ -10,6 +10,7 @@ import (
 
 	"lectern/api"
 	"lectern/drum"
+	. "lectern/rig"
 	"lectern/sample"
 	"lectern/vault"
 )
@@ -24,7 +25,7 @@ func lookRefused(t *testing.T, h *Hedge, want api.Errno) {
 	if l, e := h.Pages(); len(l) != 0 || e != want {
 		t.Fatalf("Pages: %v, %d, not %d", l, e, want)
 	}
-	look(t, "Drop", h.Drop(), want)
+	Look(t, "Drop", h.Drop(), want)
 }
 
 func lookNoGet(t *testing.T, h *Hedge, k string, want api.Errno) {
@@ -137,12 +138,12 @@ func TestP1Nil(t *testing.T) {
 
 // TestErrors: what is asked of arguments is asked ahead of what the vault says: there is no transaction, and later no power.
 func TestErrors(t *testing.T) {
-	d := newDrum(t, 400)
-	v := opened(t, d, 16)
-	look(t, "Begin", v.Begin(), api.OK)
+	d := NewDrum(t, 400)
+	v := Opened(t, d, 16)
+	Look(t, "Begin", v.Begin(), api.OK)
 	h := made(t, v)
 	put(t, h, "k", "v")
-	look(t, "Commit", v.Commit(), api.OK)
+	Look(t, "Commit", v.Commit(), api.OK)
 	long, longest := strings.Repeat("k", 129), strings.Repeat("k", 128)
 	much := strings.Repeat("v", 70001)
 	for _, on := range []bool{true, false} {
@@ -180,13 +181,13 @@ func TestErrors(t *testing.T) {
 		lookNoPut(t, h, "l", much[1:], api.ErrState)
 		lookNoPut(t, h, longest, strings.Repeat("v", 96), api.ErrState)
 		lookNoDelete(t, h, "k", api.ErrState)
-		look(t, "Drop", h.Drop(), api.ErrState)
+		Look(t, "Drop", h.Drop(), api.ErrState)
 		if h, e := Make(v); h != nil || e != api.ErrState {
 			t.Errorf("P18.1: Make without a transaction: %v, %d", h, e)
 		}
 		lookWhole(t, h, pairs{"k": "v"})
-		look(t, "Fuse", d.Fuse(0), api.OK)
-		look(t, "Checkpoint", v.Checkpoint(), api.ErrDown)
+		Look(t, "Fuse", d.Fuse(0), api.OK)
+		Look(t, "Checkpoint", v.Checkpoint(), api.ErrDown)
 	}
 	lookRefused(t, h, api.ErrDown)
 	for _, root := range []int{h.Root(), 0, -1, 9} {
@@ -199,14 +200,14 @@ func TestErrors(t *testing.T) {
 
 // TestP18_1Make: the root is the page that Alloc answers.
 func TestP18_1Make(t *testing.T) {
-	v := begun(t, 400, 32)
+	v := Begun(t, 400, 32)
 	for i := range 6 {
 		if n, e := v.Alloc(); n != i+1 || e != api.OK {
 			t.Fatalf("vault's Alloc: %d, %d", n, e)
 		}
 	}
 	for _, n := range []int{5, 2, 3} {
-		look(t, "vault's Free", v.Free(n), api.OK)
+		Look(t, "vault's Free", v.Free(n), api.OK)
 	}
 	var hedges []*Hedge
 	for _, want := range []int{2, 3, 5, 7, 8} {
@@ -237,7 +238,7 @@ func TestP18_1Make(t *testing.T) {
 
 // TestP18_1At: hedges of one root are one; the root stays while a hedge grows and shrinks.
 func TestP18_1At(t *testing.T) {
-	v := begun(t, 16384, 1024)
+	v := Begun(t, 16384, 1024)
 	other := made(t, v)
 	h := made(t, v)
 	same := at(t, v, h.Root())
@@ -260,14 +261,14 @@ func TestP18_1At(t *testing.T) {
 	for _, root := range []int{3, 0, -1, 4, 1534, 1535, 1 << 20, math.MaxInt, math.MinInt} {
 		lookNoAt(t, v, root, api.ErrArg)
 	}
-	look(t, "Drop", h.Drop(), api.OK)
+	Look(t, "Drop", h.Drop(), api.OK)
 	lookNoAt(t, v, 2, api.ErrArg)
 	at(t, v, 1)
 }
 
 // TestP18_2Example: the chapter's example.
 func TestP18_2Example(t *testing.T) {
-	h := made(t, begun(t, 100, 8))
+	h := made(t, Begun(t, 100, 8))
 	put(t, h, "b", "1")
 	put(t, h, "a", "2")
 	put(t, h, "ab", "3")
@@ -285,7 +286,7 @@ func TestP18_2Example(t *testing.T) {
 
 // TestP18_2Order: keys stand in the order of their bytes, the shorter one first where one begins with the other; all that From may be told.
 func TestP18_2Order(t *testing.T) {
-	h := made(t, begun(t, 16384, 1024))
+	h := made(t, Begun(t, 16384, 1024))
 	m := pairs{}
 	dice := sample.Dice(182)
 	keys := []string{strings.Repeat("\xff", 128), strings.Repeat("\x00", 128)}
@@ -317,7 +318,7 @@ func TestP18_2Order(t *testing.T) {
 func TestP18_2Values(t *testing.T) {
 	sizes := []int{0, 1, 9, 95, 96, 97, 98, 255, 256, 491, 492, 493, 496, 983, 984, 985, 5000, 69999, 70000}
 	for _, k := range []string{"k", strings.Repeat("k", 128)} {
-		v := begun(t, 16384, 1024)
+		v := Begun(t, 16384, 1024)
 		h := made(t, v)
 		m := pairs{"j": "a", "l": "b"}
 		put(t, h, "j", "a")
@@ -329,7 +330,7 @@ func TestP18_2Values(t *testing.T) {
 					put(t, h, k, m[k])
 					lookGet(t, h, m, k)
 					l := lookWhole(t, h, m)
-					lookOwned(t, v, l)
+					LookOwned(t, v, l)
 					if len(l) != 1+longPages(size) {
 						t.Fatalf("P18.3: %d pages beside a value of %d bytes", len(l), size)
 					}
@@ -337,14 +338,14 @@ func TestP18_2Values(t *testing.T) {
 			}
 			lookDelete(t, h, k, true)
 			delete(m, k)
-			lookOwned(t, v, lookWhole(t, h, m))
+			LookOwned(t, v, lookWhole(t, h, m))
 		}
 	}
 }
 
 // TestP18_2Memory: what is handed in stays, spare room too, and isn't kept; what is answered shares nothing.
 func TestP18_2Memory(t *testing.T) {
-	h := made(t, begun(t, 16384, 1024))
+	h := made(t, Begun(t, 16384, 1024))
 	m := filled(t, h, 60)
 	spare := func(s string) []byte { return append(make([]byte, 0, len(s)+40), s...) }
 	for _, value := range []string{"", "v", strings.Repeat("v", 96), strings.Repeat("v", 97), strings.Repeat("v", 3000)} {
@@ -400,12 +401,12 @@ func TestP18_2Memory(t *testing.T) {
 
 // TestP18_3NoChange: a call that changes no pairs changes no page, and a transaction of such calls has no group.
 func TestP18_3NoChange(t *testing.T) {
-	d := newDrum(t, 16384)
-	v := opened(t, d, 1024)
-	look(t, "Begin", v.Begin(), api.OK)
+	d := NewDrum(t, 16384)
+	v := Opened(t, d, 1024)
+	Look(t, "Begin", v.Begin(), api.OK)
 	h := made(t, v)
 	m := filled(t, h, 150)
-	again(t, v)
+	Again(t, v)
 	groups, loose := v.Groups(), d.Loose()
 	dice := sample.Dice(183)
 	for _, k := range slices.Sorted(maps.Keys(m)) {
@@ -420,12 +421,12 @@ func TestP18_3NoChange(t *testing.T) {
 		at(t, v, h.Root())
 		lookNoPut(t, h, k, strings.Repeat("v", 70001), api.ErrLong)
 	}
-	again(t, v)
+	Again(t, v)
 	if v.Groups() != groups || d.Loose() != loose {
 		t.Errorf("P18.3: calls that change no pairs change pages")
 	}
 	put(t, h, "k", "new")
-	look(t, "Commit", v.Commit(), api.OK)
+	Look(t, "Commit", v.Commit(), api.OK)
 	if v.Groups() != groups+1 {
 		t.Errorf("P18.3: a call that changes pairs changes no page")
 	}
@@ -446,7 +447,7 @@ func changes(before, after map[int]string, long map[int]int) int {
 func longOf(t *testing.T, h *Hedge, into map[int]int) {
 	t.Helper()
 	nodes := map[int]int{}
-	look(t, "walk", h.walk(nil, func(n int, _ node) (bool, api.Errno) { nodes[n]++; return true, api.OK }), api.OK)
+	Look(t, "walk", h.walk(nil, func(n int, _ node) (bool, api.Errno) { nodes[n]++; return true, api.OK }), api.OK)
 	for n := range 2048 {
 		into[n] += 1 - nodes[n]
 	}
@@ -455,11 +456,11 @@ func longOf(t *testing.T, h *Hedge, into map[int]int) {
 // TestP18_3Changes: keys that are alike up to their ends make a hedge with many levels; each call in a transaction of its own, with room for 40 changed pages, the map among them.
 func TestP18_3Changes(t *testing.T) {
 	for _, s := range []style{1, 2, 3, 4} {
-		d := newDrum(t, 16384)
-		v := opened(t, d, 41)
-		look(t, "Begin", v.Begin(), api.OK)
+		d := NewDrum(t, 16384)
+		v := Opened(t, d, 41)
+		Look(t, "Begin", v.Begin(), api.OK)
 		h := made(t, v)
-		again(t, v)
+		Again(t, v)
 		m := pairs{}
 		dice := sample.Dice(184 + s)
 		most, levels := 0, 0
@@ -471,7 +472,7 @@ func TestP18_3Changes(t *testing.T) {
 			}
 			before, long := map[int]string(nil), map[int]int{}
 			if i%50 == 0 {
-				before = image(t, v)
+				before = Image(t, v)
 				longOf(t, h, long)
 			}
 			if n := len(keys); n == 0 {
@@ -486,12 +487,12 @@ func TestP18_3Changes(t *testing.T) {
 			}
 			if i%50 == 0 {
 				longOf(t, h, long)
-				most = max(most, changes(before, image(t, v), long))
-				lookOwned(t, v, lookWhole(t, h, m))
+				most = max(most, changes(before, Image(t, v), long))
+				LookOwned(t, v, lookWhole(t, h, m))
 			}
-			again(t, v)
+			Again(t, v)
 		}
-		lookOwned(t, v, lookWhole(t, h, m))
+		LookOwned(t, v, lookWhole(t, h, m))
 		if most > 40 || most < 2 || s == 1 && levels < 6 {
 			t.Errorf("P18.3: %d pages changed by one call, in %d levels", most, levels)
 		}
@@ -503,7 +504,7 @@ func TestP18_3Least(t *testing.T) {
 	ways := []func(i int) int{func(i int) int { return i }, func(i int) int { return 2999 - i }, func(i int) int { return i * 7 % 3000 }}
 	for i, come := range ways {
 		for j, gone := range ways {
-			v := begun(t, 16384, 1024)
+			v := Begun(t, 16384, 1024)
 			h := made(t, v)
 			m := pairs{}
 			key := func(n int) string { return string([]byte{byte(n >> 8), byte(n)}) }
@@ -511,7 +512,7 @@ func TestP18_3Least(t *testing.T) {
 				put(t, h, key(come(n)), "")
 				m[key(come(n))] = ""
 				if n%499 == 0 {
-					lookOwned(t, v, lookWhole(t, h, m))
+					LookOwned(t, v, lookWhole(t, h, m))
 				}
 			}
 			if l := lookPages(t, h, m); len(l) > 3000*5/200 {
@@ -521,7 +522,7 @@ func TestP18_3Least(t *testing.T) {
 				lookDelete(t, h, key(gone(n)), true)
 				delete(m, key(gone(n)))
 				if n%97 == 0 {
-					lookOwned(t, v, lookWhole(t, h, m))
+					LookOwned(t, v, lookWhole(t, h, m))
 				}
 			}
 			if l := lookWhole(t, h, m); len(l) != 1 {
@@ -534,29 +535,29 @@ func TestP18_3Least(t *testing.T) {
 // TestP18_3Drop: all pages of a hedge are freed, and no others.
 func TestP18_3Drop(t *testing.T) {
 	for _, count := range []int{0, 1, 40, 300} {
-		v := begun(t, 16384, 1024)
+		v := Begun(t, 16384, 1024)
 		a, h, b := made(t, v), made(t, v), made(t, v)
 		first := filled(t, a, 30)
 		filled(t, h, count)
 		last := filled(t, b, 31)
-		again(t, v)
-		look(t, "P18.3: Drop", h.Drop(), api.OK)
-		lookOwned(t, v, lookWhole(t, a, first), lookWhole(t, b, last))
+		Again(t, v)
+		Look(t, "P18.3: Drop", h.Drop(), api.OK)
+		LookOwned(t, v, lookWhole(t, a, first), lookWhole(t, b, last))
 		lookRefused(t, h, api.ErrArg)
-		look(t, "Abort", v.Abort(), api.OK)
-		look(t, "Begin", v.Begin(), api.OK)
-		look(t, "P18.3: Drop", at(t, v, h.Root()).Drop(), api.OK)
-		again(t, v)
-		lookOwned(t, v, lookWhole(t, a, first), lookWhole(t, b, last))
-		look(t, "P18.3: Drop", a.Drop(), api.OK)
-		look(t, "P18.3: Drop", b.Drop(), api.OK)
-		lookOwned(t, v)
+		Look(t, "Abort", v.Abort(), api.OK)
+		Look(t, "Begin", v.Begin(), api.OK)
+		Look(t, "P18.3: Drop", at(t, v, h.Root()).Drop(), api.OK)
+		Again(t, v)
+		LookOwned(t, v, lookWhole(t, a, first), lookWhole(t, b, last))
+		Look(t, "P18.3: Drop", a.Drop(), api.OK)
+		Look(t, "P18.3: Drop", b.Drop(), api.OK)
+		LookOwned(t, v)
 	}
 }
 
 // TestOneRather: where a page has room for a leaf with the one behind it, but not with the one ahead, there is one page less.
 func TestOneRather(t *testing.T) {
-	v := begun(t, 800, 64)
+	v := Begun(t, 800, 64)
 	h := made(t, v)
 	m := pairs{}
 	for _, k := range []string{"a", "b", "c", "d", "e", "f", "g", "a1", "a2"} { // 99 bytes each, and more
@@ -564,7 +565,7 @@ func TestOneRather(t *testing.T) {
 		put(t, h, k, m[k])
 	}
 	l, e := h.path([]byte("c"))
-	look(t, "path", e, api.OK)
+	Look(t, "path", e, api.OK)
 	if len(l[0].node.cells) != 3 || l[0].at != 1 {
 		t.Fatalf("%d leaves, the key stands in the one %d", len(l[0].node.cells), l[0].at)
 	}
@@ -579,7 +580,7 @@ func TestOneRather(t *testing.T) {
 
 // TestNeeds: From doesn't read what it doesn't need.
 func TestNeeds(t *testing.T) {
-	v := begun(t, 16384, 1024)
+	v := Begun(t, 16384, 1024)
 	h := made(t, v)
 	m := pairs{}
 	key := func(n int) string { return string([]byte{byte(n >> 8), byte(n)}) }
@@ -590,8 +591,8 @@ func TestNeeds(t *testing.T) {
 	lookPages(t, h, m)
 	spoilt := func(k string) (first, last int) {
 		l, e := h.path([]byte(k))
-		look(t, "path", e, api.OK)
-		look(t, "vault's Put", v.Put(l[len(l)-1].page, nil), api.OK)
+		Look(t, "path", e, api.OK)
+		Look(t, "vault's Put", v.Put(l[len(l)-1].page, nil), api.OK)
 		number := func(c cell) int { return int(c.key[0])<<8 + int(c.key[1]) }
 		return number(l.leaf().cells[0]), number(l.leaf().last())
 	}
@@ -606,21 +607,21 @@ func TestNeeds(t *testing.T) {
 
 // TestP18_4: what a transaction did is gone with its Abort, and there with its Commit.
 func TestP18_4(t *testing.T) {
-	d := newDrum(t, 16384)
-	v := opened(t, d, 1024)
-	look(t, "Begin", v.Begin(), api.OK)
+	d := NewDrum(t, 16384)
+	v := Opened(t, d, 1024)
+	Look(t, "Begin", v.Begin(), api.OK)
 	h := made(t, v)
-	look(t, "Abort", v.Abort(), api.OK)
+	Look(t, "Abort", v.Abort(), api.OK)
 	lookNoAt(t, v, 1, api.ErrArg)
 	lookNoGet(t, h, "k", api.ErrArg)
 
-	look(t, "Begin", v.Begin(), api.OK)
+	Look(t, "Begin", v.Begin(), api.OK)
 	h = made(t, v)
 	m := filled(t, h, 200)
-	look(t, "Commit", v.Commit(), api.OK)
+	Look(t, "Commit", v.Commit(), api.OK)
 	for range 3 {
-		before := image(t, v)
-		look(t, "Begin", v.Begin(), api.OK)
+		before := Image(t, v)
+		Look(t, "Begin", v.Begin(), api.OK)
 		for i, k := range slices.Sorted(maps.Keys(m)) {
 			if i%3 > 0 {
 				lookDelete(t, h, k, true)
@@ -629,15 +630,15 @@ func TestP18_4(t *testing.T) {
 			}
 		}
 		filled(t, h, 77)
-		look(t, "Abort", v.Abort(), api.OK)
-		if !maps.Equal(before, image(t, v)) {
+		Look(t, "Abort", v.Abort(), api.OK)
+		if !maps.Equal(before, Image(t, v)) {
 			t.Fatalf("P18.4: Abort leaves something")
 		}
 		lookWhole(t, h, m)
-		look(t, "Crash", d.Crash(nil), api.OK)
-		v = opened(t, d, 1024)
+		Look(t, "Crash", d.Crash(nil), api.OK)
+		v = Opened(t, d, 1024)
 		h = at(t, v, 1)
-		lookOwned(t, v, lookWhole(t, h, m))
+		LookOwned(t, v, lookWhole(t, h, m))
 	}
 }
 
@@ -645,7 +646,7 @@ func TestP18_4(t *testing.T) {
 func TestP1Same(t *testing.T) {
 	var images []map[int]string
 	for range 2 {
-		v := begun(t, 16384, 1024)
+		v := Begun(t, 16384, 1024)
 		h := made(t, v)
 		m := filled(t, h, 200)
 		for i, k := range slices.Sorted(maps.Keys(m)) {
@@ -654,7 +655,7 @@ func TestP1Same(t *testing.T) {
 			}
 		}
 		filled(t, h, 100)
-		images = append(images, image(t, v))
+		images = append(images, Image(t, v))
 	}
 	if !maps.Equal(images[0], images[1]) {
 		t.Errorf("P1: what is told twice is written in two ways")
@@ -664,22 +665,22 @@ func TestP1Same(t *testing.T) {
 // full is a hedge in a vault that has no page left.
 func full(t *testing.T, sectors int, s style) (*drum.Drum, *vault.Vault, *Hedge, pairs) {
 	t.Helper()
-	d := newDrum(t, sectors)
-	v := opened(t, d, 1024)
-	look(t, "Begin", v.Begin(), api.OK)
+	d := NewDrum(t, sectors)
+	v := Opened(t, d, 1024)
+	Look(t, "Begin", v.Begin(), api.OK)
 	h := made(t, v)
-	look(t, "Commit", v.Commit(), api.OK)
+	Look(t, "Commit", v.Commit(), api.OK)
 	m := pairs{}
 	dice := sample.Dice(185 + s)
 	for {
-		look(t, "Begin", v.Begin(), api.OK)
+		Look(t, "Begin", v.Begin(), api.OK)
 		k, value := s.key(&dice), s.value(&dice)
 		switch e := h.Put([]byte(k), []byte(value)); e {
 		case api.OK:
-			look(t, "Commit", v.Commit(), api.OK)
+			Look(t, "Commit", v.Commit(), api.OK)
 			m[k] = value
 		case api.ErrFull:
-			look(t, "Abort", v.Abort(), api.OK)
+			Look(t, "Abort", v.Abort(), api.OK)
 			return d, v, h, m
 		default:
 			t.Fatalf("P18.2: Put: %d", e)
@@ -691,13 +692,13 @@ func full(t *testing.T, sectors int, s style) (*drum.Drum, *vault.Vault, *Hedge,
 func TestP6Full(t *testing.T) {
 	for _, s := range []style{1, 2, 3, 4} {
 		d, v, h, m := full(t, 700, s)
-		lookOwned(t, v, lookWhole(t, h, m))
+		LookOwned(t, v, lookWhole(t, h, m))
 		keys := slices.Sorted(maps.Keys(m))
 		long := slices.MaxFunc(keys, func(a, b string) int { return len(m[a]) - len(m[b]) })
 		if len(m[long]) <= 96 {
 			t.Fatalf("no value is long")
 		}
-		look(t, "Begin", v.Begin(), api.OK)
+		Look(t, "Begin", v.Begin(), api.OK)
 		for v.Pages()-1 > len(v.Taken()) {
 			if _, e := v.Alloc(); e != api.OK {
 				t.Fatalf("vault's Alloc: %d", e)
@@ -710,48 +711,48 @@ func TestP6Full(t *testing.T) {
 		most := strings.Repeat("x", longPages(len(m[long]))*492)
 		put(t, h, long, most)
 		lookNoPut(t, h, long, most+"x", api.ErrFull)
-		look(t, "Abort", v.Abort(), api.OK)
-		look(t, "Begin", v.Begin(), api.OK)
+		Look(t, "Abort", v.Abort(), api.OK)
+		Look(t, "Begin", v.Begin(), api.OK)
 		for _, k := range keys {
 			lookDelete(t, h, k, true)
 		}
 		if l := v.Taken(); len(l) != 1 {
 			t.Errorf("P6: taken are %v", l)
 		}
-		look(t, "Crash", d.Crash(nil), api.OK)
-		v = opened(t, d, 64)
-		lookOwned(t, v, lookWhole(t, at(t, v, 1), m))
+		Look(t, "Crash", d.Crash(nil), api.OK)
+		v = Opened(t, d, 64)
+		LookOwned(t, v, lookWhole(t, at(t, v, 1), m))
 	}
 }
 
 // TestP6Limit: ErrLimit comes of the vault's bound alone: the root and the map are two changed pages, halves two more.
 func TestP6Limit(t *testing.T) {
 	for frames, want := range map[int]api.Errno{4: api.ErrLimit, 5: api.OK} {
-		v := opened(t, newDrum(t, 800), frames)
-		look(t, "Begin", v.Begin(), api.OK)
+		v := Opened(t, NewDrum(t, 800), frames)
+		Look(t, "Begin", v.Begin(), api.OK)
 		h := made(t, v)
-		again(t, v)
+		Again(t, v)
 		m := pairs{}
 		for i := range 6 { // 82 bytes each
 			m[string(rune('a'+i))] = strings.Repeat("v", 79)
 			put(t, h, string(rune('a'+i)), strings.Repeat("v", 79))
 		}
-		again(t, v)
-		look(t, "P6: Put", h.Put([]byte("g"), []byte("v")), want)
+		Again(t, v)
+		Look(t, "P6: Put", h.Put([]byte("g"), []byte("v")), want)
 		if want == api.OK {
 			m["g"] = "v"
-			again(t, v)
-			lookOwned(t, v, lookWhole(t, h, m))
+			Again(t, v)
+			LookOwned(t, v, lookWhole(t, h, m))
 			continue
 		}
-		look(t, "Abort", v.Abort(), api.OK)
-		lookOwned(t, v, lookWhole(t, h, m))
-		look(t, "Begin", v.Begin(), api.OK)
+		Look(t, "Abort", v.Abort(), api.OK)
+		LookOwned(t, v, lookWhole(t, h, m))
+		Look(t, "Begin", v.Begin(), api.OK)
 		lookNoPut(t, h, "a", strings.Repeat("v", 984), api.ErrLimit)
-		look(t, "Abort", v.Abort(), api.OK)
-		look(t, "Begin", v.Begin(), api.OK)
+		Look(t, "Abort", v.Abort(), api.OK)
+		Look(t, "Begin", v.Begin(), api.OK)
 		put(t, h, "a", strings.Repeat("v", 492))
 		m["a"] = strings.Repeat("v", 492)
-		lookOwned(t, v, lookWhole(t, h, m))
+		LookOwned(t, v, lookWhole(t, h, m))
 	}
 }

@@ -8,50 +8,12 @@ import (
 
 	"lectern/api"
 	"lectern/drum"
+	. "lectern/rig"
 	"lectern/sample"
 	"lectern/vault"
 )
 
 // The model of a hedge is a map; the pages are looked at as the vault has them.
-
-// look looks what a call answered.
-func look(t *testing.T, what string, got, want api.Errno) {
-	t.Helper()
-	if got != want {
-		t.Fatalf("%s: %d, not %d", what, got, want)
-	}
-}
-
-// newDrum is a drum on which nothing stands.
-func newDrum(t *testing.T, sectors int) *drum.Drum {
-	t.Helper()
-	d, e := drum.New(sectors)
-	look(t, "drum's New", e, api.OK)
-	return d
-}
-
-// opened is the vault on a drum.
-func opened(t *testing.T, d *drum.Drum, frames int) *vault.Vault {
-	t.Helper()
-	v, e := vault.Open(d, frames)
-	look(t, "vault's Open", e, api.OK)
-	return v
-}
-
-// begun is a vault on a new drum, in whose pages a transaction works.
-func begun(t *testing.T, sectors, frames int) *vault.Vault {
-	t.Helper()
-	v := opened(t, newDrum(t, sectors), frames)
-	look(t, "Begin", v.Begin(), api.OK)
-	return v
-}
-
-// again commits a transaction, and begins the next one.
-func again(t *testing.T, v *vault.Vault) {
-	t.Helper()
-	look(t, "Commit", v.Commit(), api.OK)
-	look(t, "Begin", v.Begin(), api.OK)
-}
 
 // made is a new hedge.
 func made(t *testing.T, v *vault.Vault) *Hedge {
@@ -137,7 +99,7 @@ func lookGet(t *testing.T, h *Hedge, m pairs, k string) {
 func lookPages(t *testing.T, h *Hedge, m pairs) []int {
 	t.Helper()
 	l, e := h.Pages()
-	look(t, "P18.3: Pages", e, api.OK)
+	Look(t, "P18.3: Pages", e, api.OK)
 	for i, n := range l {
 		if i > 0 && l[i-1] >= n {
 			t.Fatalf("P18.3: Pages don't rise: %v", l)
@@ -161,7 +123,7 @@ func lookShape(t *testing.T, h *Hedge) int {
 	var below func(n int, low, high []byte) int
 	below = func(n int, low, high []byte) int {
 		p, e := h.read(n)
-		look(t, "read", e, api.OK)
+		Look(t, "read", e, api.OK)
 		if !p.fits() || !p.isLeaf && len(p.cells) < 2 || p.isLeaf && n != h.root && p.size() < leastFill {
 			t.Fatalf("page %d holds %d cells of %d bytes", n, len(p.cells), p.size())
 		}
@@ -197,27 +159,6 @@ func lookWhole(t *testing.T, h *Hedge, m pairs) []int {
 	lookFrom(t, h, m, "", len(m)+1)
 	lookShape(t, h)
 	return lookPages(t, h, m)
-}
-
-// image is the pages that are taken, and what stands in them.
-func image(t *testing.T, v *vault.Vault) map[int]string {
-	t.Helper()
-	m := map[int]string{}
-	for _, n := range v.Taken() {
-		p, e := v.Get(n)
-		look(t, "vault's Get", e, api.OK)
-		m[n] = string(p)
-	}
-	return m
-}
-
-// lookOwned looks that hedges have no page in common, and that no other page is taken.
-func lookOwned(t *testing.T, v *vault.Vault, pages ...[]int) {
-	t.Helper()
-	all := slices.Sorted(slices.Values(slices.Concat(pages...)))
-	if taken := v.Taken(); !slices.Equal(all, taken) {
-		t.Fatalf("P6: the hedges' pages are %v, and taken are %v", all, taken)
-	}
 }
 
 // style is how drawn keys and values look.
@@ -281,7 +222,7 @@ type grove struct {
 // begin begins a transaction.
 func (g *grove) begin(t *testing.T) {
 	t.Helper()
-	look(t, "Begin", g.vault.Begin(), api.OK)
+	Look(t, "Begin", g.vault.Begin(), api.OK)
 	g.begun, g.standing = nil, nil
 	for i, m := range g.now {
 		g.begun = append(g.begun, maps.Clone(m))
@@ -294,7 +235,7 @@ func (g *grove) restore(t *testing.T) {
 	t.Helper()
 	for i, n := range g.standing {
 		h, e := At(g.vault, n)
-		look(t, "P18.4: At", e, api.OK)
+		Look(t, "P18.4: At", e, api.OK)
 		g.hedges[i], g.now[i] = h, g.begun[i]
 	}
 	g.look(t)
@@ -303,7 +244,7 @@ func (g *grove) restore(t *testing.T) {
 // abort aborts the transaction.
 func (g *grove) abort(t *testing.T) {
 	t.Helper()
-	look(t, "Abort", g.vault.Abort(), api.OK)
+	Look(t, "Abort", g.vault.Abort(), api.OK)
 	g.restore(t)
 	g.begin(t)
 }
@@ -314,7 +255,7 @@ func (g *grove) commit(t *testing.T) {
 	if e := g.vault.Commit(); e == api.ErrFull {
 		g.restore(t)
 	} else {
-		look(t, "Commit", e, api.OK)
+		Look(t, "Commit", e, api.OK)
 	}
 	g.begin(t)
 }
@@ -326,7 +267,7 @@ func (g *grove) look(t *testing.T) {
 	for i, h := range g.hedges {
 		all = append(all, lookWhole(t, h, g.now[i]))
 	}
-	lookOwned(t, g.vault, all...)
+	LookOwned(t, g.vault, all...)
 }
 
 // told looks at what a call that changes pairs answered; whether it is done. Behind ErrFull and ErrLimit the transaction is aborted. A call may need so many pages that aren't taken.
@@ -410,7 +351,7 @@ func (g *grove) step(t *testing.T, dice *sample.Dice) {
 		g.abort(t)
 	case 15:
 		h, e := At(g.vault, g.hedges[i].Root())
-		look(t, "P18.1: At", e, api.OK)
+		Look(t, "P18.1: At", e, api.OK)
 		g.hedges[i] = h
 	case 16:
 		if dice.OneIn(10) {
@@ -444,13 +385,13 @@ func (g *grove) dropped(t *testing.T, i int) {
 // newGrove is some hedges in a vault on a drum, in a transaction.
 func newGrove(t *testing.T, d *drum.Drum, frames, hedges int) *grove {
 	t.Helper()
-	g := &grove{vault: opened(t, d, frames)}
+	g := &grove{vault: Opened(t, d, frames)}
 	g.begin(t)
 	for range hedges {
 		g.hedges = append(g.hedges, made(t, g.vault))
 		g.now = append(g.now, pairs{})
 	}
-	look(t, "Commit", g.vault.Commit(), api.OK)
+	Look(t, "Commit", g.vault.Commit(), api.OK)
 	g.begin(t)
 	return g
 }
@@ -460,7 +401,7 @@ func TestModel(t *testing.T) {
 	dice := sample.Dice(181)
 	fulls, limits := 0, 0
 	for range 12 {
-		d := newDrum(t, 400+dice.Under(4000))
+		d := NewDrum(t, 400+dice.Under(4000))
 		g := newGrove(t, d, 30+dice.Under(60), 5)
 		for range 6 {
 			for range 400 {
@@ -470,8 +411,8 @@ func TestModel(t *testing.T) {
 			if !dice.OneIn(3) {
 				g.commit(t)
 			}
-			look(t, "Crash", d.Crash(nil), api.OK)
-			g.vault = opened(t, d, 30+dice.Under(60))
+			Look(t, "Crash", d.Crash(nil), api.OK)
+			g.vault = Opened(t, d, 30+dice.Under(60))
 			g.restore(t)
 			g.begin(t)
 		}

@@ -9,6 +9,7 @@ import (
 
 	"lectern/api"
 	"lectern/drum"
+	. "lectern/rig"
 	"lectern/sample"
 	"lectern/vault"
 )
@@ -210,7 +211,7 @@ func run(t *testing.T, v *vault.Vault) (standing, cut forest) {
 // lookFound looks that what an opening finds is one of two forests, or the one if there is no other.
 func lookFound(t *testing.T, d *drum.Drum, standing, cut forest, fuse int) {
 	t.Helper()
-	v := opened(t, d, 16)
+	v := Opened(t, d, 16)
 	if !standing.isIn(t, v) && (cut == nil || !cut.isIn(t, v)) {
 		t.Fatalf("P4: what is found behind a crash at step %d is neither what stood nor what was committed", fuse)
 	}
@@ -219,16 +220,16 @@ func lookFound(t *testing.T, d *drum.Drum, standing, cut forest, fuse int) {
 // TestP4: the power goes at each step; with few frames, so that reading does steps too.
 func TestP4(t *testing.T) {
 	const sectors = 700
-	d := newDrum(t, sectors)
-	v := opened(t, d, 24)
+	d := NewDrum(t, sectors)
+	v := Opened(t, d, 24)
 	standing, _ := run(t, v)
 	lookFound(t, d, standing, nil, -1)
 	steps, cuts := d.Steps(), 0
 	dice := sample.Dice(186)
 	for fuse := range steps {
-		d := newDrum(t, sectors)
-		v := opened(t, d, 24)
-		look(t, "Fuse", d.Fuse(fuse), api.OK)
+		d := NewDrum(t, sectors)
+		v := Opened(t, d, 24)
+		Look(t, "Fuse", d.Fuse(fuse), api.OK)
 		standing, cut := run(t, v)
 		if cut != nil {
 			cuts++
@@ -239,7 +240,7 @@ func TestP4(t *testing.T) {
 				keep[i] = way == 1 || way > 1 && dice.OneIn(2)
 			}
 			c := d.Clone()
-			look(t, "Crash", c.Crash(keep), api.OK)
+			Look(t, "Crash", c.Crash(keep), api.OK)
 			lookFound(t, c, standing, cut, fuse)
 		}
 	}
@@ -250,18 +251,18 @@ func TestP4(t *testing.T) {
 
 // TestP4Reading: what is read while the power goes is right, or nothing beside ErrDown.
 func TestP4Reading(t *testing.T) {
-	d := newDrum(t, 4000)
-	v := opened(t, d, 512)
-	look(t, "Begin", v.Begin(), api.OK)
+	d := NewDrum(t, 4000)
+	v := Opened(t, d, 512)
+	Look(t, "Begin", v.Begin(), api.OK)
 	h := made(t, v)
 	m := filled(t, h, 120)
-	look(t, "Commit", v.Commit(), api.OK)
-	look(t, "Checkpoint", v.Checkpoint(), api.OK)
+	Look(t, "Commit", v.Commit(), api.OK)
+	Look(t, "Checkpoint", v.Checkpoint(), api.OK)
 	downs := 0
 	for fuse := 0; fuse < 2000; fuse += 13 {
 		c := d.Clone()
-		v := opened(t, c, 4)
-		look(t, "Fuse", c.Fuse(fuse), api.OK)
+		v := Opened(t, c, 4)
+		Look(t, "Fuse", c.Fuse(fuse), api.OK)
 		switch e := reads(1)(v, forest{1: m}); e {
 		case api.OK:
 		case api.ErrDown:

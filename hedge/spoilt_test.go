@@ -9,6 +9,7 @@ import (
 
 	"lectern/api"
 	"lectern/octet"
+	. "lectern/rig"
 	"lectern/sample"
 	"lectern/vault"
 )
@@ -48,7 +49,7 @@ func tried(t *testing.T, v *vault.Vault, root int, keys ...string) {
 // TestP1Spoilt: bytes of a hedge's pages are turned, and pages stand in the place of others.
 func TestP1Spoilt(t *testing.T) {
 	for s := range style(5) {
-		v := begun(t, 8000, 900)
+		v := Begun(t, 8000, 900)
 		h := made(t, v)
 		made(t, v)
 		m := pairs{}
@@ -58,20 +59,20 @@ func TestP1Spoilt(t *testing.T) {
 			put(t, h, k, value)
 			m[k] = value
 		}
-		look(t, "Commit", v.Commit(), api.OK)
+		Look(t, "Commit", v.Commit(), api.OK)
 		pages := v.Taken()
 		keys := slices.Sorted(maps.Keys(m))
 		forms := 0
 		for range 600 {
-			look(t, "Begin", v.Begin(), api.OK)
+			Look(t, "Begin", v.Begin(), api.OK)
 			for range 1 + dice.Under(3) {
 				n := pages[dice.Under(min(len(pages), 1+dice.Under(40)))]
 				b, e := v.Get(n)
-				look(t, "vault's Get", e, api.OK)
+				Look(t, "vault's Get", e, api.OK)
 				switch dice.Under(6) {
 				case 0:
 					b, e = v.Get(pages[dice.Under(len(pages))])
-					look(t, "vault's Get", e, api.OK)
+					Look(t, "vault's Get", e, api.OK)
 				case 1:
 					copy(b[dice.Under(490):], octet.Bytes(uint64(dice.Under(60)), 4))
 				case 2:
@@ -81,13 +82,13 @@ func TestP1Spoilt(t *testing.T) {
 						b[dice.Under(len(b))] = byte(dice.Under(256))
 					}
 				}
-				look(t, "vault's Put", v.Put(n, b), api.OK)
+				Look(t, "vault's Put", v.Put(n, b), api.OK)
 			}
 			if _, e := h.From(nil, math.MaxInt); e == api.ErrForm {
 				forms++
 			}
 			tried(t, v, 1, keys[dice.Under(len(keys))], s.key(&dice), keys[dice.Under(len(keys))], keys[0])
-			look(t, "Abort", v.Abort(), api.OK)
+			Look(t, "Abort", v.Abort(), api.OK)
 		}
 		lookWhole(t, h, m)
 		if forms < 100 {
@@ -108,16 +109,16 @@ func laid(kids ...int) []byte {
 // written is a vault with six pages that are taken, in which such rows of bytes stand, in a transaction.
 func written(t *testing.T, rows ...[]byte) *vault.Vault {
 	t.Helper()
-	v := begun(t, 800, 64)
+	v := Begun(t, 800, 64)
 	for i := range 6 {
 		if n, e := v.Alloc(); n != i+1 || e != api.OK {
 			t.Fatalf("vault's Alloc: %d, %d", n, e)
 		}
 		if i < len(rows) {
-			look(t, "vault's Put", v.Put(i+1, rows[i]), api.OK)
+			Look(t, "vault's Put", v.Put(i+1, rows[i]), api.OK)
 		}
 	}
-	again(t, v)
+	Again(t, v)
 	return v
 }
 
@@ -138,8 +139,8 @@ func TestP1Round(t *testing.T) {
 		v := written(t, rows...)
 		for _, k := range []string{"a", "b", "\x00", "\x01\x00", "z"} {
 			tried(t, v, 1, k, "a", "\x00\x00")
-			look(t, "Abort", v.Abort(), api.OK)
-			look(t, "Begin", v.Begin(), api.OK)
+			Look(t, "Abort", v.Abort(), api.OK)
+			Look(t, "Begin", v.Begin(), api.OK)
 		}
 	}
 }
@@ -154,7 +155,7 @@ func TestP18_1NoKid(t *testing.T) {
 	lookNoFrom(t, h, "a", 1, api.ErrForm)
 	lookNoPut(t, h, "a", "v", api.ErrForm)
 	lookNoDelete(t, h, "a", api.ErrForm)
-	look(t, "Drop", h.Drop(), api.ErrForm)
+	Look(t, "Drop", h.Drop(), api.ErrForm)
 }
 
 // TestP18_1NoHedge: pages in which no node stands.

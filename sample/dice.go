@@ -39,6 +39,26 @@ func (d *Dice) Document() api.Node {
 	return Doc(append(kids, d.around()...)...)
 }
 
+// Node is a node of any kind, sometimes one that isn't right.
+func (d *Dice) Node() api.Node {
+	switch d.Under(8) {
+	case 0:
+		return Text(d.Of("", "x", "\xff", "y"))
+	case 1:
+		return Comment(d.Of("", "c", "--"))
+	case 2:
+		return Instr(d.Of("i", "xml", "j"), d.Of("", "w", " w"))
+	case 3:
+		return d.Document()
+	case 4:
+		return Chain(Elem("b"), 25+d.Under(10))
+	case 5:
+		return With(Elem("b", Text("x")), "u", "c", d.Text())
+	}
+	l := d.Document().Kids
+	return l[d.Under(len(l))]
+}
+
 // around is what may stand beside an element of a document.
 func (d *Dice) around() []api.Node {
 	var l []api.Node
