@@ -267,10 +267,10 @@ func TestModel(t *testing.T) {
 	dice := sample.Dice(191)
 	ends := map[api.Errno]int{}
 	for range 10 {
-		d := NewDrum(t, 300+dice.Under(400))
+		d := NewDrum(t, 300+dice.Under(250))
 		x := newLexicon(t, d, 16+dice.Under(10))
 		for range 4 {
-			for range 250 {
+			for range 400 {
 				ends[x.step(t, &dice)]++
 			}
 			x.look(t)
@@ -287,7 +287,8 @@ func TestModel(t *testing.T) {
 
 // TestP4: the power goes at each step: numbers are there, each with its text, as they were committed.
 func TestP4(t *testing.T) {
-	adds := func(texts ...string) Transaction[[]string] {
+	type act = Transaction[*vault.Vault, []string]
+	adds := func(texts ...string) act {
 		return func(v *vault.Vault, l []string) ([]string, api.Errno) {
 			g, e := At(v, 1)
 			if e != api.OK {
@@ -322,8 +323,8 @@ func TestP4(t *testing.T) {
 		}
 		return l, v.Begin()
 	}
-	script := []Transaction[[]string]{makes, adds("b", "a", "b"), gone, adds("c", ""), adds("a"), adds("d", strings.Repeat("e", 100), strings.Repeat("f", 100)), adds(strings.Repeat("g", 90), "h"), gone}
-	cuts := Cut(t, 500, 10, nil, script, func(v *vault.Vault, l []string) bool {
+	acts := []act{makes, adds("b", "a", "b"), gone, adds("c", ""), adds("a"), adds("d", strings.Repeat("e", 100), strings.Repeat("f", 100)), adds(strings.Repeat("g", 90), "h"), gone}
+	stands := func(v *vault.Vault, l []string) bool {
 		g, e := At(v, 1)
 		if l == nil {
 			return e == api.ErrArg && len(v.Taken()) == 0
@@ -340,7 +341,9 @@ func TestP4(t *testing.T) {
 			}
 		}
 		return many == len(l) && e == api.OK && slices.Equal(lookPages(t, g), v.Taken())
-	})
+	}
+	open := func(d *drum.Drum) (*vault.Vault, api.Errno) { return vault.Open(d, 10) }
+	cuts := Script[*vault.Vault, []string]{Sectors: 500, Open: open, Acts: acts, Stands: stands}.Cut(t)
 	if cuts < 50 {
 		t.Errorf("%d Commits were cut", cuts)
 	}

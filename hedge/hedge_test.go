@@ -2,6 +2,7 @@ package hedge
 
 import (
 	"bytes"
+	"fmt"
 	"maps"
 	"math"
 	"slices"
@@ -528,6 +529,36 @@ func TestP18_3Least(t *testing.T) {
 			if l := lookWhole(t, h, m); len(l) != 1 {
 				t.Errorf("P18.3: %d pages of no pairs, gone in way %d", len(l), j)
 			}
+		}
+	}
+}
+
+// TestInOrder: keys that come one behind the other, alone or between others, fill three quarters of their pages; they fill a half, if each comes ahead of the other.
+func TestInOrder(t *testing.T) {
+	rising := func(n int) int { return n }
+	falling := func(n int) int { return 999 - n }
+	for i, c := range []struct {
+		others, most int
+		place        func(n int) int
+	}{{0, 45, rising}, {100, 45, rising}, {0, 70, falling}} {
+		v := Begun(t, 16384, 1024)
+		h := made(t, v)
+		m := pairs{}
+		puts := func(k string) {
+			t.Helper()
+			put(t, h, k, "")
+			m[k] = ""
+		}
+		for n := range c.others {
+			puts(fmt.Sprintf("%c%011d", "ac"[n%2], n))
+		}
+		before := len(lookPages(t, h, m))
+		for n := range 1000 {
+			puts(fmt.Sprintf("b%011d", c.place(n)))
+		}
+		// Each takes 14 bytes, so there are 57 leaves, if all of them are halves.
+		if l := lookWhole(t, h, m); len(l)-before > c.most {
+			t.Errorf("case %d: %d pages more, not %d, where 1000 keys come between %d others", i, len(l)-before, c.most, c.others)
 		}
 	}
 }

@@ -16,33 +16,34 @@ type kid struct {
 	node node
 }
 
-// settle lays what became of the leaf at the end of a path, and of the branches above, as far as they change too.
-func (h *Hedge) settle(l path, p node) api.Errno {
+// settle lays what became of the leaf at the end of a path by a key that came, if one did, and of the branches above, as far as they change too.
+func (h *Hedge) settle(l path, p node, came []byte) api.Errno {
 	for i := len(l) - 1; i > 0; i-- {
-		up, changed, e := h.settleKid(l[i-1], p)
+		up, changed, e := h.settleKid(l[i-1], p, came)
 		if e != api.OK || !changed {
 			return e
 		}
 		p = up
 	}
-	return h.settleRoot(p)
+	return h.settleRoot(p, came)
 }
 
 // settleKid lays what became of a kid of a branch: in two pages, if one has no room for it, and together with a kid beside it, if it takes too little. It answers the branch, and whether that changed.
-func (h *Hedge) settleKid(up step, p node) (node, bool, api.Errno) {
+func (h *Hedge) settleKid(up step, p node, came []byte) (node, bool, api.Errno) {
 	begin, end := up.at, up.at+1
 	if p.size() < leastFill {
 		var e api.Errno
 		if begin, end, p, e = h.joined(up, p); e != api.OK {
 			return node{}, false, e
 		}
+		came = nil // such are parted evenly
 	}
 	cells := up.node.cells
 	var pages []int
 	for _, c := range cells[begin:end] {
 		pages = append(pages, c.kid())
 	}
-	kids, e := h.lay(kidsOf(cells[begin].key, p), pages)
+	kids, e := h.lay(kidsOf(cells[begin].key, p, came), pages)
 	if e != api.OK {
 		return node{}, false, e
 	}
@@ -79,11 +80,11 @@ func (h *Hedge) joined(up step, p node) (begin, end int, whole node, e api.Errno
 }
 
 // kidsOf is a node as kids of a branch: itself, or its halves.
-func kidsOf(key []byte, p node) []kid {
+func kidsOf(key []byte, p node, came []byte) []kid {
 	if p.fits() {
 		return []kid{{key: key, node: p}}
 	}
-	first, parting, second := p.halves()
+	first, parting, second := p.halves(came)
 	return []kid{{key: key, node: first}, {key: parting, node: second}}
 }
 
@@ -118,9 +119,9 @@ func (h *Hedge) lay(kids []kid, pages []int) ([]kid, api.Errno) {
 }
 
 // settleRoot lays what became of the root, whose page stays: what it has no room for goes into two others, and a kid that is alone comes in its place.
-func (h *Hedge) settleRoot(p node) api.Errno {
+func (h *Hedge) settleRoot(p node, came []byte) api.Errno {
 	if !p.fits() {
-		kids, e := h.lay(kidsOf(nil, p), nil)
+		kids, e := h.lay(kidsOf(nil, p, came), nil)
 		if e != api.OK {
 			return e
 		}

@@ -1,4 +1,4 @@
-// Package rig makes drums and vaults for the tests of the layers that live in a vault's pages, and lets the power go beneath them.
+// Package rig makes drums, vaults and edits for the tests of the layers that live in a vault's pages, and lets the power go beneath them.
 package rig
 
 import (
@@ -6,7 +6,9 @@ import (
 
 	"lectern/api"
 	"lectern/drum"
+	"lectern/edit"
 	"lectern/sample"
+	"lectern/tree"
 	"lectern/vault"
 )
 
@@ -100,22 +102,72 @@ func Apart(before, after map[string]string) int {
 	return count
 }
 
-// Transaction is what is done in a vault between Begin and Commit. It answers what became of a state by it, which it leaves as it was.
-type Transaction[S any] func(v *vault.Vault, state S) (S, api.Errno)
+// DrawnEdit is an edit that is mostly one of d's nodes.
+func DrawnEdit(dice *sample.Dice, d api.Node) edit.Edit {
+	var paths [][]int
+	var names []api.Name
+	for path, n := range tree.All(d) {
+		paths = append(paths, path)
+		for _, a := range n.Attrs {
+			names = append(names, a.Name)
+		}
+	}
+	e := edit.Edit{Op: 1 + dice.Under(6), At: paths[dice.Under(len(paths))], Text: dice.Text(), Node: dice.Node()}
+	e.Name = api.Name{URI: dice.Of("", "u", "v", "\xff"), Local: dice.Of("a", "b", "c", "")}
+	if len(names) > 0 && dice.OneIn(2) {
+		e.Name = names[dice.Under(len(names))]
+	}
+	switch n, _ := tree.At(d, e.At); {
+	case dice.OneIn(20):
+		e.Op = dice.Under(20) - 10
+	case dice.OneIn(2): // beside a kid, or behind the last one
+		e.Op = edit.Insert
+		e.At = append(e.At, dice.Under(len(n.Kids)+1))
+	case n.Kind == api.Text && dice.OneIn(2):
+		e.Op = edit.Write
+	}
+	return e
+}
 
-// run does transactions, up to the first ErrDown. It answers what may be found then: the state of those that are committed, and, if a Commit was cut, the one behind that.
-func run[S any](t T, v *vault.Vault, state S, script []Transaction[S]) []S {
+// Store is something on a drum that is changed by transactions.
+type Store interface {
+	Begin() api.Errno
+	Commit() api.Errno
+}
+
+// Transaction is what is done in a store between Begin and Commit. It answers what became of a state by it, which it leaves as it was.
+type Transaction[R Store, S any] func(store R, state S) (S, api.Errno)
+
+// Script is a store's opening on a new drum of so many sectors, and transactions behind it. First is the state that the opening finds, or what counts for none; Stands says whether a state is what stands in a store.
+type Script[R Store, S any] struct {
+	Sectors int
+	Open    func(d *drum.Drum) (R, api.Errno)
+	First   S
+	Acts    []Transaction[R, S]
+	Stands  func(store R, state S) bool
+}
+
+// run does the script on a drum, up to the first ErrDown. It answers what may be found then: the state of the transactions that are committed, and, if a Commit was cut, the one behind that.
+func (x Script[R, S]) run(t T, d *drum.Drum) []S {
 	t.Helper()
-	for i, do := range script {
-		Look(t, "Begin", v.Begin(), api.OK)
-		next, e := do(v, state)
+	state := x.First
+	store, e := x.Open(d)
+	if e == api.ErrDown {
+		return []S{state}
+	}
+	Look(t, "Open", e, api.OK)
+	for i, do := range x.Acts {
+		if e := store.Begin(); e == api.ErrDown {
+			return []S{state}
+		}
+		next, e := do(store, state)
 		if e == api.ErrDown {
 			return []S{state}
 		}
 		if e != api.OK {
 			t.Fatalf("transaction %d: %d", i, e)
 		}
-		if e = v.Commit(); e == api.ErrDown {
+		if e = store.Commit(); e == api.ErrDown {
 			return []S{state, next}
 		}
 		Look(t, "Commit", e, api.OK)
@@ -124,26 +176,48 @@ func run[S any](t T, v *vault.Vault, state S, script []Transaction[S]) []S {
 	return []S{state}
 }
 
-// Cut does a script with a vault of so many frames on a drum of its own for each step that it does, at which the power goes, and then crashes the drum in some ways: a state that may be found must stand in the vault that is opened. It answers how many Commits were cut.
-func Cut[S any](t T, sectors, frames int, first S, script []Transaction[S], stands func(v *vault.Vault, state S) bool) int {
+// found is which one of the states stands in the store that is opened on a drum.
+func (x Script[R, S]) found(t T, d *drum.Drum, states []S) int {
 	t.Helper()
-	dice, cuts := sample.Dice(sectors), 0
+	store, e := x.Open(d)
+	Look(t, "Open behind a crash", e, api.OK)
+	return slices.IndexFunc(states, func(s S) bool { return x.Stands(store, s) })
+}
+
+// crash lets a drum's power go, and come back; how much stands of what is loose hangs on the way.
+func crash(t T, dice *sample.Dice, d *drum.Drum, way int) {
+	t.Helper()
+	keep := make([]bool, d.Loose())
+	for i := range keep {
+		keep[i] = way == 1 || way > 1 && dice.OneIn(2)
+	}
+	Look(t, "Crash", d.Crash(keep), api.OK)
+}
+
+// Cut does a script on a drum of its own for each step that it does, at which the power goes, and then crashes the drum in some ways: a state that may be found must be what the next opening finds, and the same one must be found behind openings that are cut. It answers how many Commits were cut.
+func (x Script[R, S]) Cut(t T) int {
+	t.Helper()
+	dice, cuts := sample.Dice(x.Sectors), 0
 	for fuse := 0; ; fuse++ {
-		d := NewDrum(t, sectors)
-		v := Opened(t, d, frames)
+		d := NewDrum(t, x.Sectors)
 		Look(t, "Fuse", d.Fuse(fuse), api.OK)
-		states := run(t, v, first, script)
+		states := x.run(t, d)
 		cuts += len(states) - 1
 		for way := range 4 {
-			keep := make([]bool, d.Loose())
-			for i := range keep {
-				keep[i] = way == 1 || way > 1 && dice.OneIn(2)
-			}
 			c := d.Clone()
-			Look(t, "Crash", c.Crash(keep), api.OK)
-			found := Opened(t, c, frames)
-			if !slices.ContainsFunc(states, func(s S) bool { return stands(found, s) }) {
+			crash(t, &dice, c, way)
+			again := c.Clone()
+			first := x.found(t, c, states)
+			if first < 0 {
 				t.Fatalf("P4: behind a crash at step %d there is neither what stood nor what was committed", fuse)
+			}
+			for range way {
+				Look(t, "Fuse", again.Fuse(dice.Under(200)), api.OK)
+				x.Open(again)
+				crash(t, &dice, again, dice.Under(3))
+			}
+			if way > 0 && x.found(t, again, states) != first {
+				t.Fatalf("P4: behind a crash at step %d an opening that was cut changes what the next one finds", fuse)
 			}
 		}
 		if !d.Down() {

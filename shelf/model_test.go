@@ -407,33 +407,6 @@ func drawnDocument(dice *sample.Dice) api.Node {
 	return sample.Doc(sample.Elem("many", kids...))
 }
 
-// drawnEdit is an edit that is mostly one of d's nodes.
-func drawnEdit(dice *sample.Dice, d api.Node) edit.Edit {
-	var paths [][]int
-	var names []api.Name
-	for path, n := range tree.All(d) {
-		paths = append(paths, path)
-		for _, a := range n.Attrs {
-			names = append(names, a.Name)
-		}
-	}
-	e := edit.Edit{Op: 1 + dice.Under(6), At: paths[dice.Under(len(paths))], Text: dice.Text(), Node: dice.Node()}
-	e.Name = api.Name{URI: dice.Of("", "u", "v", "\xff"), Local: dice.Of("a", "b", "c", "")}
-	if len(names) > 0 && dice.OneIn(2) {
-		e.Name = names[dice.Under(len(names))]
-	}
-	switch n, _ := tree.At(d, e.At); {
-	case dice.OneIn(20):
-		e.Op = dice.Under(20) - 10
-	case dice.OneIn(2): // beside a kid, or behind the last one
-		e.Op = edit.Insert
-		e.At = append(e.At, dice.Under(len(n.Kids)+1))
-	case n.Kind == api.Text && dice.OneIn(2):
-		e.Op = edit.Write
-	}
-	return e
-}
-
 // step does one drawn thing.
 func (x *library) step(t *testing.T, dice *sample.Dice) {
 	t.Helper()
@@ -441,7 +414,7 @@ func (x *library) step(t *testing.T, dice *sample.Dice) {
 	switch dice.Under(40) {
 	default:
 		if ok {
-			x.edit(t, doc, drawnEdit(dice, x.now[doc].whole()))
+			x.edit(t, doc, DrawnEdit(dice, x.now[doc].whole()))
 		}
 	case 0, 1, 2, 3:
 		x.put(t, drawnDoc(dice), drawnDocument(dice))

@@ -37,11 +37,14 @@ func stands(t *testing.T, v *vault.Vault, m books) bool {
 	return e == api.OK && slices.Equal(docs, slices.Sorted(maps.Keys(m))) && slices.Equal(lookPages(t, s), v.Taken())
 }
 
+// work is a transaction of such documents.
+type work = Transaction[*vault.Vault, books]
+
 // act is what is done in a shelf, and told to the documents that should stand. It answers ErrSum, if something else is answered than these say.
 type act func(s *Shelf, m books) api.Errno
 
 // acts is a transaction of some acts.
-func acts(l ...act) Transaction[books] {
+func acts(l ...act) work {
 	return func(v *vault.Vault, m books) (books, api.Errno) {
 		s, e := At(v, 1, 2)
 		if e != api.OK {
@@ -58,7 +61,7 @@ func acts(l ...act) Transaction[books] {
 }
 
 // undone is a transaction that is aborted.
-func undone(do Transaction[books]) Transaction[books] {
+func undone(do work) work {
 	return func(v *vault.Vault, m books) (books, api.Errno) {
 		if _, e := do(v, m); e != api.OK {
 			return nil, e
@@ -130,14 +133,14 @@ func reads(s *Shelf, m books) api.Errno {
 }
 
 // script is documents that come, are changed, and go.
-func script() []Transaction[books] {
+func script() []work {
 	makes := func(v *vault.Vault, _ books) (books, api.Errno) {
 		_, e := Make(v)
 		return books{}, e
 	}
 	long := With(Elem("l", Text(strings.Repeat("t", 700))), "u", "k", strings.Repeat("v", 300))
 	wide := Doc(Elem("a", slices.Repeat([]api.Node{With(Elem("b"), "", "c", strings.Repeat("d", 20)), Text("e")}, 12)...))
-	return []Transaction[books]{
+	return []work{
 		makes,
 		acts(puts(1, Doc(Elem("a", Elem("b"), Text("x")))), reads),
 		acts(edits(1, edit.Edit{Op: edit.Insert, At: []int{0, 1}, Node: In("u", Elem("new"))}), puts(1<<32-1, Doc(long))),
@@ -152,7 +155,9 @@ func script() []Transaction[books] {
 
 // TestP4: the power goes at each step; with few frames, so that reading does steps too.
 func TestP4(t *testing.T) {
-	cuts := Cut(t, 900, 24, nil, script(), func(v *vault.Vault, m books) bool { return stands(t, v, m) })
+	open := func(d *drum.Drum) (*vault.Vault, api.Errno) { return vault.Open(d, 24) }
+	stands := func(v *vault.Vault, m books) bool { return stands(t, v, m) }
+	cuts := Script[*vault.Vault, books]{Sectors: 900, Open: open, Acts: script(), Stands: stands}.Cut(t)
 	if cuts < 100 {
 		t.Errorf("%d Commits were cut", cuts)
 	}

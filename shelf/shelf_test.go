@@ -639,7 +639,7 @@ func TestP1Same(t *testing.T) {
 		for i := range 40 {
 			d := dice.Document()
 			put(t, s, i%9, d)
-			s.Edit(i%9, drawnEdit(&dice, d))
+			s.Edit(i%9, DrawnEdit(&dice, d))
 		}
 		images = append(images, Image(t, v))
 	}
@@ -668,7 +668,7 @@ func TestP4Transactions(t *testing.T) {
 		before := Image(t, v)
 		for doc := range 5 {
 			x := put(t, s, doc+3, dice.Document())
-			s.Edit(doc+3, drawnEdit(&dice, x.whole()))
+			s.Edit(doc+3, DrawnEdit(&dice, x.whole()))
 			lookDrop(t, s, doc, true)
 		}
 		Look(t, "Abort", v.Abort(), api.OK)

@@ -30,7 +30,7 @@ func tried(t *testing.T, dice *Dice, s *Shelf, doc int) (get, labels api.Errno) 
 		t.Fatalf("Labels(%d): %v, %d", doc, l, labels)
 	}
 	for range 3 {
-		e := drawnEdit(dice, d)
+		e := DrawnEdit(dice, d)
 		if dice.OneIn(4) {
 			e = edit.Edit{Op: 1 + dice.Under(6), At: []int{0, 0}, Node: Elem("x")}
 		}
