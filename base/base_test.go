@@ -124,6 +124,13 @@ func lookUnread(t *testing.T, b *Base, name string, want api.Errno) {
 	lookNoPick(t, b, name, "/a", 0, want)
 }
 
+func lookNoNumber(t *testing.T, b *Base, name string, want api.Errno) {
+	t.Helper()
+	if n, e := b.Number(name); n != 0 || e != want {
+		t.Fatalf("Number(%s): %d, %d, not %d", brief(name), n, e, want)
+	}
+}
+
 func lookNoPick(t *testing.T, b *Base, name, query string, place int, want api.Errno) {
 	t.Helper()
 	if l, at, e := b.Pick(name, query); len(l) > 0 || at != place || e != want {
@@ -178,6 +185,7 @@ func TestP1Nil(t *testing.T) {
 		lookUnchanged(t, b, name, api.ErrNil)
 		lookUnread(t, b, name, api.ErrNil)
 		lookNoPick(t, b, name, "no query", 0, api.ErrNil)
+		lookNoNumber(t, b, name, api.ErrNil)
 	}
 	lookNoLists(t, b, api.ErrNil)
 	for _, do := range []func() api.Errno{b.Begin, b.Commit, b.Abort, b.Checkpoint} {
@@ -201,6 +209,7 @@ func TestP1Nil(t *testing.T) {
 		b.Tree(name)
 		b.Export(name)
 		b.Pick(name, "/a")
+		b.Number(name)
 	}
 }
 
@@ -365,6 +374,7 @@ func TestErrors(t *testing.T) {
 		for _, name := range wrong() {
 			lookUnread(t, b, name, api.ErrName)
 			lookNoPick(t, b, name, "no query", 0, api.ErrName)
+			lookNoNumber(t, b, name, api.ErrName)
 		}
 		for _, name := range []string{"a", "none"} {
 			lookNoPick(t, b, name, "", 0, api.ErrQuery)
@@ -373,6 +383,7 @@ func TestErrors(t *testing.T) {
 			lookNoPick(t, b, name, strings.Repeat("/a", 21), 0, api.ErrLimit)
 		}
 		lookUnread(t, b, "none", state)
+		lookNoNumber(t, b, "none", state)
 	}
 	lookReads(api.ErrNone)
 	for _, name := range append(wrong(), "a", "none") {
@@ -584,20 +595,19 @@ func TestP21_6(t *testing.T) {
 	if w, x := b.Shelf(); w != v || x != s || !v.Busy() {
 		t.Fatal("P21.6: Shelf answers others")
 	}
-	docs, e := s.Docs()
-	Look(t, "shelf's Docs", e, api.OK)
-	var texts []string
-	for _, doc := range docs {
+	var numbers []int
+	for _, name := range []string{"a", "b"} {
+		doc, e := b.Number(name)
+		Look(t, "Number", e, api.OK)
 		d, ok, e := s.Get(doc)
-		text, f := canon.Write(d)
-		if !ok || e != api.OK || f != api.OK {
-			t.Fatalf("P21.6: the shelf's document %d: %v, %d", doc, ok, e)
+		if want, f := b.Tree(name); !ok || e != api.OK || f != api.OK || !tree.Equal(d, want) {
+			t.Fatalf("P21.6: the shelf's document %d: %s, %v, %d", doc, brief(d), ok, e)
 		}
-		texts = append(texts, string(text))
+		numbers = append(numbers, doc)
 	}
-	slices.Sort(texts)
-	if !slices.Equal(texts, []string{"<a><b></b></a>\n", "<c></c>\n"}) {
-		t.Errorf("P21.6: in the shelf stand %q", texts)
+	slices.Sort(numbers)
+	if docs, e := s.Docs(); !slices.Equal(docs, numbers) || e != api.OK {
+		t.Errorf("P21.6: in the shelf stand %v, %d, not %v", docs, e, numbers)
 	}
 	l := lookPages(t, b)
 	clear(l[:cap(l)])

@@ -19,9 +19,6 @@ import (
 	"lectern/tree"
 )
 
-// papers is documents by their names.
-type papers map[string]api.Node
-
 // lookPaper looks at a document.
 func lookPaper(t *testing.T, b *Base, name string, d api.Node) {
 	t.Helper()
@@ -36,7 +33,7 @@ func lookPaper(t *testing.T, b *Base, name string, d api.Node) {
 }
 
 // lookPapers looks at all of a base.
-func lookPapers(t *testing.T, b *Base, m papers) {
+func lookPapers(t *testing.T, b *Base, m Papers) {
 	t.Helper()
 	lookNames(t, b, slices.Sorted(maps.Keys(m))...)
 	for name, d := range m {
@@ -50,8 +47,8 @@ type desk struct {
 	drum   *drum.Drum
 	base   *Base
 	frames int
-	now    papers
-	begun  papers
+	now    Papers
+	begun  Papers
 	needed int // how many pages the transaction may have changed so far, at most
 	counts map[api.Errno]int
 }
@@ -59,7 +56,7 @@ type desk struct {
 // newDesk is a base on a new drum, in which a transaction is open.
 func newDesk(t *testing.T, sectors, frames int, counts map[api.Errno]int) *desk {
 	t.Helper()
-	x := &desk{drum: NewDrum(t, sectors), frames: frames, begun: papers{}, counts: counts}
+	x := &desk{drum: NewDrum(t, sectors), frames: frames, begun: Papers{}, counts: counts}
 	x.base = opened(t, x.drum, frames)
 	x.restore(t)
 	return x
@@ -198,25 +195,6 @@ func (x *desk) reads(t *testing.T, dice *sample.Dice, name string) {
 	x.counts[e]++
 }
 
-// drawnText is the text of a drawn document, sometimes spoilt.
-func drawnText(dice *sample.Dice) []byte {
-	text, _ := canon.Write(dice.Document())
-	switch dice.Under(12) {
-	case 0:
-		text = text[:dice.Under(len(text)+1)]
-	case 1:
-		at := dice.Under(len(text))
-		text = slices.Concat(text[:at], []byte(dice.Of("<", "&", "\x00", "]]>", "x", "<a>", "</a>", "\xff", "<!DOCTYPE a>", "a=''")), text[at:])
-	case 2:
-		text = []byte("<many>" + strings.Repeat(dice.Of("<p/>t", "<q xmlns='u' r=''>t</q>", "<?i w?>"), dice.Under(150)) + "</many>")
-	case 3:
-		if dice.OneIn(5) {
-			text = []byte("<many>" + strings.Repeat("<p/>", 1990+dice.Under(20)) + "</many>")
-		}
-	}
-	return text
-}
-
 // crash lets the power go, and opens the base anew.
 func (x *desk) crash(t *testing.T, dice *sample.Dice) {
 	t.Helper()
@@ -235,11 +213,7 @@ func (x *desk) name(dice *sample.Dice) string {
 	if l := slices.Sorted(maps.Keys(x.now)); len(l) > 0 && !dice.OneIn(8) {
 		return l[dice.Under(len(l))]
 	}
-	return drawnName(dice)
-}
-
-func drawnName(dice *sample.Dice) string {
-	return dice.Of("a", "b", "c", "d", "r", "n", "dr", "é", "long-"+strings.Repeat("n", 95))
+	return DrawnName(dice)
 }
 
 // step does one drawn thing.
@@ -250,7 +224,7 @@ func (x *desk) step(t *testing.T, dice *sample.Dice) {
 	default:
 		x.edit(t, name, DrawnEdit(dice, x.now[name]))
 	case 0, 1, 2, 3:
-		x.put(t, drawnName(dice), drawnText(dice))
+		x.put(t, DrawnName(dice), DrawnText(dice))
 	case 4:
 		x.drop(t, name)
 	case 5, 6, 7, 8:

@@ -10,14 +10,13 @@ import (
 	"lectern/canon"
 	"lectern/drum"
 	"lectern/edit"
-	"lectern/parse"
 	. "lectern/rig"
 	. "lectern/sample"
 	"lectern/tree"
 )
 
 // stands says whether these documents are what stands in a base, and nothing else does.
-func stands(b *Base, m papers) bool {
+func stands(b *Base, m Papers) bool {
 	names, e := b.Names()
 	if e != api.OK || !slices.Equal(names, slices.Sorted(maps.Keys(m))) {
 		return false
@@ -32,85 +31,8 @@ func stands(b *Base, m papers) bool {
 	return e == api.OK && slices.Equal(l, v.Taken())
 }
 
-// work is a transaction of such documents.
-type work = Transaction[*Base, papers]
-
-// act is what is done in a base, and told to the documents that should stand. It answers ErrSum, if something else is answered than these say.
-type act func(b *Base, m papers) api.Errno
-
-// acts is a transaction of some acts.
-func acts(l ...act) work {
-	return func(b *Base, m papers) (papers, api.Errno) {
-		next := maps.Clone(m)
-		for _, do := range l {
-			if e := do(b, next); e != api.OK {
-				return nil, e
-			}
-		}
-		return next, api.OK
-	}
-}
-
-// undone is a transaction that is aborted.
-func undone(do work) work {
-	return func(b *Base, m papers) (papers, api.Errno) {
-		if _, e := do(b, m); e != api.OK {
-			return nil, e
-		}
-		if e := b.Abort(); e != api.OK {
-			return nil, e
-		}
-		return m, b.Begin()
-	}
-}
-
-// checked is a transaction ahead of which there is a checkpoint.
-func checked(do work) work {
-	return func(b *Base, m papers) (papers, api.Errno) {
-		for _, f := range []func() api.Errno{b.Commit, b.Checkpoint, b.Begin} {
-			if e := f(); e != api.OK {
-				return nil, e
-			}
-		}
-		return do(b, m)
-	}
-}
-
-func putting(name, text string) act {
-	return func(b *Base, m papers) api.Errno {
-		d, _, e := parse.Parse([]byte(text))
-		if e != api.OK {
-			return api.ErrSum
-		}
-		m[name] = d
-		at, e := b.Put(name, []byte(text))
-		if at != 0 {
-			return api.ErrSum
-		}
-		return e
-	}
-}
-
-func dropping(name string) act {
-	return func(b *Base, m papers) api.Errno {
-		delete(m, name)
-		return b.Drop(name)
-	}
-}
-
-func editing(name string, e edit.Edit) act {
-	return func(b *Base, m papers) api.Errno {
-		d, f := edit.Apply(m[name], e)
-		if f != api.OK {
-			return api.ErrSum
-		}
-		m[name] = d
-		return b.Edit(name, e)
-	}
-}
-
 // reading reads all that stands, in all ways; beside an error there is nothing.
-func reading(b *Base, m papers) api.Errno {
+func reading(b *Base, m Papers) api.Errno {
 	names, e := b.Names()
 	if e == api.OK && !slices.Equal(names, slices.Sorted(maps.Keys(m))) || e != api.OK && len(names) > 0 {
 		return api.ErrSum
@@ -136,30 +58,16 @@ func reading(b *Base, m papers) api.Errno {
 	return e
 }
 
-// script is documents that come, are changed, and go.
-func script() []work {
-	long := "<l xmlns='u' k='" + strings.Repeat("v", 300) + "'>" + strings.Repeat("t", 700) + "</l>"
-	wide := "<a>" + strings.Repeat("<b/>t", 12) + "</a>"
-	return []work{
-		acts(putting("a", "<x><y/>t</x>")),
-		acts(reading, editing("a", edit.Edit{Op: edit.Insert, At: []int{0, 1}, Node: Elem("new")}), putting("b", long)),
-		acts(),
-		undone(acts(putting("a", "<gone/>"), dropping("b"), putting("c", wide))),
-		acts(putting("a", wide), putting("c", "<y/>"), reading),
-		checked(acts(editing("b", edit.Edit{Op: edit.Write, At: []int{0, 0}, Text: strings.Repeat("w", 600)}), dropping("a"))),
-		acts(putting("d", "<!--c--><x/>"), dropping("c"), editing("b", edit.Edit{Op: edit.Delete, At: []int{0, 0}})),
-		undone(acts(dropping("b"), dropping("d"))),
-		acts(dropping("b"), dropping("d")),
-		acts(putting("a", "<x/>"), reading),
-	}
+// paperwork is a script for a base on a new drum.
+func paperwork(frames int) Script[*Base, Papers] {
+	open := func(d *drum.Drum) (*Base, api.Errno) { return Open(d, frames) }
+	return Paperwork(600, open, reading, stands)
 }
 
 // TestP21_4: the power goes at each step, in Open too: what an opening finds is what was committed, or that and what was cut.
 func TestP21_4(t *testing.T) {
 	for _, frames := range []int{24, 200} {
-		open := func(d *drum.Drum) (*Base, api.Errno) { return Open(d, frames) }
-		cuts := Script[*Base, papers]{Sectors: 600, Open: open, First: papers{}, Acts: script(), Stands: stands}.Cut(t)
-		if cuts < 200 {
+		if cuts := paperwork(frames).Cut(t); cuts < 200 {
 			t.Errorf("%d Commits were cut", cuts)
 		}
 	}
@@ -187,7 +95,7 @@ func TestP21_4New(t *testing.T) {
 			}
 			Look(t, "Crash", d.Crash(keep), api.OK)
 			c := d.Clone()
-			if !stands(opened(t, c, 8), papers{}) {
+			if !stands(opened(t, c, 8), Papers{}) {
 				t.Fatalf("P21.4: behind an opening that was cut at step %d there are documents", fuse)
 			}
 		}
@@ -200,14 +108,14 @@ func TestP21_4New(t *testing.T) {
 }
 
 // four is a drum on which a base of four documents stands, with an empty log: so that opening it reads few of its pages.
-func four(t *testing.T) (*drum.Drum, papers) {
+func four(t *testing.T) (*drum.Drum, Papers) {
 	t.Helper()
 	d := NewDrum(t, 4000)
 	b := opened(t, d, 512)
-	m := papers{}
+	m := Papers{}
 	Look(t, "Begin", b.Begin(), api.OK)
 	for i, name := range []string{"a", "b", "c", "d"} {
-		Look(t, "Put", putting(name, "<a>"+strings.Repeat("<b/>t", 8+9*i)+"</a>")(b, m), api.OK)
+		Look(t, "Put", Putting[*Base](name, "<a>"+strings.Repeat("<b/>t", 8+9*i)+"</a>")(b, m), api.OK)
 	}
 	Look(t, "Commit", b.Commit(), api.OK)
 	Look(t, "Checkpoint", b.Checkpoint(), api.OK)
@@ -246,7 +154,8 @@ func TestP4Reading(t *testing.T) {
 // TestP4Writing: the power goes while documents are changed; behind that nothing can be changed, and nothing was.
 func TestP4Writing(t *testing.T) {
 	d, m := four(t)
-	for i, do := range []act{putting("a", "<new/>"), putting("e", "<new/>"), dropping("c"), editing("d", edit.Edit{Op: edit.Delete, At: []int{0, 3}})} {
+	put, drop, change := Putting[*Base], Dropping[*Base], Editing[*Base]
+	for i, do := range []Act[*Base]{put("a", "<new/>"), put("e", "<new/>"), drop("c"), change("d", edit.Edit{Op: edit.Delete, At: []int{0, 3}})} {
 		downs := 0
 		for fuse := 0; ; fuse += 3 {
 			c := d.Clone()
@@ -281,8 +190,8 @@ func TestP4Writing(t *testing.T) {
 func TestP1Same(t *testing.T) {
 	drums := [2]*drum.Drum{NewDrum(t, 600), NewDrum(t, 600)}
 	for _, d := range drums {
-		b, m := opened(t, d, 24), papers{}
-		for i, do := range script() {
+		b, m := opened(t, d, 24), Papers{}
+		for i, do := range paperwork(24).Acts {
 			Look(t, "Begin", b.Begin(), api.OK)
 			next, e := do(b, m)
 			if e != api.OK {

@@ -7,31 +7,25 @@ import (
 	"lectern/api"
 	"lectern/drum"
 	"lectern/edit"
+	"lectern/forge"
 	"lectern/sample"
 	"lectern/tree"
 	"lectern/vault"
 )
 
 // T is a test.
-type T interface {
-	Helper()
-	Fatalf(form string, words ...any)
-}
+type T = forge.T
 
 // Look looks what a call answered.
 func Look(t T, what string, got, want api.Errno) {
 	t.Helper()
-	if got != want {
-		t.Fatalf("%s: %d, not %d", what, got, want)
-	}
+	forge.Look(t, what, got, want)
 }
 
 // NewDrum is a drum on which nothing stands.
 func NewDrum(t T, sectors int) *drum.Drum {
 	t.Helper()
-	d, e := drum.New(sectors)
-	Look(t, "drum's New", e, api.OK)
-	return d
+	return forge.NewDrum(t, sectors)
 }
 
 // Opened is the vault on a drum.
@@ -184,8 +178,8 @@ func (x Script[R, S]) found(t T, d *drum.Drum, states []S) int {
 	return slices.IndexFunc(states, func(s S) bool { return x.Stands(store, s) })
 }
 
-// crash lets a drum's power go, and come back; how much stands of what is loose hangs on the way.
-func crash(t T, dice *sample.Dice, d *drum.Drum, way int) {
+// Crash lets a drum's power go, and come back; how much stands of what is loose hangs on the way: nothing, all, or what is drawn.
+func Crash(t T, dice *sample.Dice, d *drum.Drum, way int) {
 	t.Helper()
 	keep := make([]bool, d.Loose())
 	for i := range keep {
@@ -205,7 +199,7 @@ func (x Script[R, S]) Cut(t T) int {
 		cuts += len(states) - 1
 		for way := range 4 {
 			c := d.Clone()
-			crash(t, &dice, c, way)
+			Crash(t, &dice, c, way)
 			again := c.Clone()
 			first := x.found(t, c, states)
 			if first < 0 {
@@ -214,7 +208,7 @@ func (x Script[R, S]) Cut(t T) int {
 			for range way {
 				Look(t, "Fuse", again.Fuse(dice.Under(200)), api.OK)
 				x.Open(again)
-				crash(t, &dice, again, dice.Under(3))
+				Crash(t, &dice, again, dice.Under(3))
 			}
 			if way > 0 && x.found(t, again, states) != first {
 				t.Fatalf("P4: behind a crash at step %d an opening that was cut changes what the next one finds", fuse)

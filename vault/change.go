@@ -22,7 +22,7 @@ func (v *Vault) Alloc() (int, api.Errno) {
 	switch {
 	case !ok:
 		return 0, api.ErrFull
-	case !v.hasRoom(len(v.changed) + v.unchanged(n, mapPage)):
+	case !v.hasRoom(len(v.changed) + v.unchanged(n, MapPage)):
 		return 0, api.ErrLimit
 	}
 	v.changed[n] = page{}
@@ -39,7 +39,7 @@ func (v *Vault) Free(n int) api.Errno {
 	switch {
 	case !v.isTaken(n):
 		return api.ErrArg
-	case !v.hasRoom(others + v.unchanged(mapPage)):
+	case !v.hasRoom(others + v.unchanged(MapPage)):
 		return api.ErrLimit
 	}
 	delete(v.changed, n)

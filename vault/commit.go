@@ -28,7 +28,7 @@ func (v *Vault) Checkpoint() api.Errno {
 }
 
 // commit appends a group to the log, and does it when no crash takes it any more.
-func (v *Vault) commit(g group) api.Errno {
+func (v *Vault) commit(g Group) api.Errno {
 	sectors := tape.Sectors(len(g))
 	if sectors > v.plan.Log {
 		return api.ErrFull
@@ -48,8 +48,8 @@ func (v *Vault) commit(g group) api.Errno {
 }
 
 // do writes the pages of a group that stands on the log.
-func (v *Vault) do(g group) api.Errno {
-	for n, p := range g.pages() {
+func (v *Vault) do(g Group) api.Errno {
+	for n, p := range g.Pages() {
 		if e := v.told(sheet.Put(v.disk, n, g.stamp(), p)); e != api.OK {
 			return e
 		}

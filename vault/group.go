@@ -17,11 +17,24 @@ const (
 	partSize   = numberSize + api.PageSize // what a page takes in a group
 )
 
-// group is the bytes of a transaction on the log.
-type group []byte
+// Group is the bytes of a transaction on the log.
+type Group []byte
+
+// ReadGroups is the groups of the bytes that stand on a log behind a head of that stamp, in a plan of so many pages; ErrForm, if one of them isn't right.
+func ReadGroups(log [][]byte, stamp uint64, pages int) ([]Group, api.Errno) {
+	var l []Group
+	for i, b := range log {
+		g := Group(b)
+		if !g.isRight(stamp+uint64(i)+1, pages) {
+			return nil, api.ErrForm
+		}
+		l = append(l, g)
+	}
+	return l, api.OK
+}
 
 // layGroup is the group of a transaction.
-func layGroup(stamp uint64, changed map[int]page) group {
+func layGroup(stamp uint64, changed map[int]page) Group {
 	g := slices.Concat(octet.Bytes(uint64(len(changed)), countSize), octet.Bytes(stamp, stampSize))
 	for _, n := range slices.Sorted(maps.Keys(changed)) {
 		p := changed[n]
@@ -32,16 +45,16 @@ func layGroup(stamp uint64, changed map[int]page) group {
 }
 
 // count is how many pages g has, as it says itself.
-func (g group) count() int { return int(octet.Number(g[:countSize])) }
+func (g Group) count() int { return int(octet.Number(g[:countSize])) }
 
 // stamp is the stamp of g's transaction.
-func (g group) stamp() uint64 { return octet.Number(g[countSize:groupAhead]) }
+func (g Group) stamp() uint64 { return octet.Number(g[countSize:groupAhead]) }
 
-// pages is the pages of g with their numbers, as they stand in it.
-func (g group) pages() iter.Seq2[int, []byte] {
+// Pages is the pages of g with their numbers, as they stand in it.
+func (g Group) Pages() iter.Seq2[int, []byte] {
 	return func(yield func(int, []byte) bool) {
-		for part := range slices.Chunk(g[groupAhead:], partSize) {
-			if !yield(int(octet.Number(part[:numberSize])), part[numberSize:]) {
+		for rest := g[min(groupAhead, len(g)):]; len(rest) >= partSize; rest = rest[partSize:] {
+			if !yield(int(octet.Number(rest[:numberSize])), rest[numberSize:partSize]) {
 				return
 			}
 		}
@@ -49,12 +62,12 @@ func (g group) pages() iter.Seq2[int, []byte] {
 }
 
 // isRight says whether g may be the group of a transaction with a stamp, in a plan of so many pages.
-func (g group) isRight(stamp uint64, pages int) bool {
+func (g Group) isRight(stamp uint64, pages int) bool {
 	if len(g) < groupAhead || g.count() == 0 || len(g) != groupAhead+g.count()*partSize || g.stamp() != stamp {
 		return false
 	}
 	last := -1
-	for n := range g.pages() {
+	for n := range g.Pages() {
 		if n <= last || n >= pages {
 			return false
 		}
@@ -64,9 +77,9 @@ func (g group) isRight(stamp uint64, pages int) bool {
 }
 
 // hasMap says whether the map is among the pages of g.
-func (g group) hasMap() bool {
-	for n := range g.pages() {
-		if n == mapPage {
+func (g Group) hasMap() bool {
+	for n := range g.Pages() {
+		if n == MapPage {
 			return true
 		}
 	}

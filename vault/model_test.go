@@ -9,6 +9,7 @@ import (
 
 	"lectern/api"
 	"lectern/drum"
+	. "lectern/forge"
 	"lectern/sample"
 	"lectern/sheet"
 	"lectern/tape"
@@ -19,39 +20,13 @@ import (
 // state is the pages that are taken, and their bytes.
 type state map[int]string
 
-// part is a page of a group.
-type part struct {
-	n int
-	p string
-}
-
-// modelGroup is a group's bytes, all of whose fields are chosen.
-func modelGroup(count int, stamp uint64, parts ...part) []byte {
-	b := binary.BigEndian.AppendUint16(nil, uint16(count))
-	b = binary.BigEndian.AppendUint64(b, stamp)
-	for _, l := range parts {
-		b = binary.BigEndian.AppendUint32(b, uint32(l.n))
-		b = append(b, whole(l.p)...)
-	}
-	return b
-}
-
 // modelParts is a group's pages.
-func modelParts(b []byte) (stamp uint64, parts []part) {
+func modelParts(b []byte) (stamp uint64, parts []Part) {
 	for i := range int(binary.BigEndian.Uint16(b)) {
 		at := 10 + 500*i
-		parts = append(parts, part{int(binary.BigEndian.Uint32(b[at:])), string(b[at+4 : at+500])})
+		parts = append(parts, PageOf(int(binary.BigEndian.Uint32(b[at:])), string(b[at+4:at+500])))
 	}
 	return binary.BigEndian.Uint64(b[2:]), parts
-}
-
-// modelMap is the map of a state.
-func modelMap(s state) string {
-	b := make([]byte, 496)
-	for n := range s {
-		b[n/8] += 1 << (n % 8)
-	}
-	return string(b)
 }
 
 type model struct {
@@ -72,27 +47,27 @@ type model struct {
 func newModel(t *testing.T, d *drum.Drum, frames int) *model {
 	t.Helper()
 	plan, e := sheet.Draft(d.Sectors())
-	look(t, "Draft", e, api.OK)
+	Look(t, "Draft", e, api.OK)
 	m := &model{disk: d, plan: plan, frames: frames, changed: map[int]bool{}}
 	h, e := sheet.GetHead(d)
 	if e == api.OK {
 		_, groups, _ := tape.Open(d, 2, plan.Base, h.Gen)
 		m.gen, m.stamp = h.Gen, h.Stamp
 		for _, b := range groups {
-			var parts []part
+			var parts []Part
 			m.stamp, parts = modelParts(b)
 			m.write(t, parts)
 		}
-		look(t, "Flush", d.Flush(), api.OK)
+		Look(t, "Flush", d.Flush(), api.OK)
 	}
 	m.turn(t)
 	m.standing = state{}
 	bits, _, e := sheet.Get(d, 0)
-	look(t, "Get", e, api.OK)
+	Look(t, "Get", e, api.OK)
 	for n := 1; n < plan.Pages; n++ {
 		if bits[n/8]>>(n%8)%2 == 1 {
 			p, _, e := sheet.Get(d, n)
-			look(t, "Get", e, api.OK)
+			Look(t, "Get", e, api.OK)
 			m.standing[n] = string(p)
 		}
 	}
@@ -101,10 +76,10 @@ func newModel(t *testing.T, d *drum.Drum, frames int) *model {
 }
 
 // write writes pages.
-func (m *model) write(t *testing.T, parts []part) {
+func (m *model) write(t *testing.T, parts []Part) {
 	t.Helper()
 	for _, l := range parts {
-		look(t, "sheet's Put", sheet.Put(m.disk, l.n, m.stamp, []byte(l.p)), api.OK)
+		Look(t, "sheet's Put", sheet.Put(m.disk, l.N, m.stamp, []byte(l.P)), api.OK)
 	}
 }
 
@@ -112,8 +87,8 @@ func (m *model) write(t *testing.T, parts []part) {
 func (m *model) turn(t *testing.T) {
 	t.Helper()
 	m.gen++
-	look(t, "PutHead", sheet.PutHead(m.disk, sheet.Head{Gen: m.gen, Stamp: m.stamp}), api.OK)
-	look(t, "Flush", m.disk.Flush(), api.OK)
+	Look(t, "PutHead", sheet.PutHead(m.disk, sheet.Head{Gen: m.gen, Stamp: m.stamp}), api.OK)
+	Look(t, "Flush", m.disk.Flush(), api.OK)
 	m.log, _, _ = tape.Open(m.disk, 2, m.plan.Base, m.gen)
 	m.groups, m.free = 0, m.plan.Log
 }
@@ -150,7 +125,7 @@ func (m *model) alloc() (int, api.Errno) {
 	case !m.wouldBe(-1, 0, n):
 		return 0, api.ErrLimit
 	}
-	m.now[n] = whole("")
+	m.now[n] = Whole("")
 	m.changed[0], m.changed[n] = true, true
 	return n, api.OK
 }
@@ -181,7 +156,7 @@ func (m *model) put(n int, p string) api.Errno {
 	case !m.wouldBe(-1, n):
 		return api.ErrLimit
 	}
-	m.now[n] = whole(p)
+	m.now[n] = Whole(p)
 	m.changed[n] = true
 	return api.OK
 }
@@ -220,8 +195,8 @@ func (m *model) commit(t *testing.T) api.Errno {
 	}
 	m.stamp++
 	parts := m.parts()
-	look(t, "Append", m.log.Append(modelGroup(count, m.stamp, parts...)), api.OK)
-	look(t, "Flush", m.log.Flush(), api.OK)
+	Look(t, "Append", m.log.Append(GroupOf(count, m.stamp, parts...)), api.OK)
+	Look(t, "Flush", m.log.Flush(), api.OK)
 	m.write(t, parts)
 	m.groups++
 	m.free -= sectors
@@ -231,14 +206,14 @@ func (m *model) commit(t *testing.T) api.Errno {
 }
 
 // parts is the changed pages, by number.
-func (m *model) parts() []part {
-	var l []part
+func (m *model) parts() []Part {
+	var l []Part
 	for _, n := range slices.Sorted(maps.Keys(m.changed)) {
 		p := m.now[n]
 		if n == 0 {
-			p = modelMap(m.now)
+			p = MapOf(slices.Sorted(maps.Keys(m.now))...)
 		}
-		l = append(l, part{n, p})
+		l = append(l, PageOf(n, p))
 	}
 	return l
 }
@@ -254,7 +229,7 @@ func (m *model) checkpoint(t *testing.T) api.Errno {
 
 func (m *model) empty(t *testing.T) {
 	t.Helper()
-	look(t, "Flush", m.disk.Flush(), api.OK)
+	Look(t, "Flush", m.disk.Flush(), api.OK)
 	m.turn(t)
 }
 
@@ -264,7 +239,7 @@ func stateOf(t *testing.T, v *Vault) state {
 	s := state{}
 	for _, n := range v.Taken() {
 		p, e := v.Get(n)
-		look(t, "P17.2: Get", e, api.OK)
+		Look(t, "P17.2: Get", e, api.OK)
 		s[n] = string(p)
 	}
 	return s
@@ -289,7 +264,7 @@ func lookModel(t *testing.T, dice *sample.Dice, v *Vault, m *model) {
 	if string(p) != m.now[n] || (e == api.ErrArg) != (m.now[n] == "") {
 		t.Fatalf("P17.2: Get(%d): %q, %d, not %q", n, p, e, m.now[n])
 	}
-	if v.disk.Loose() != m.disk.Loose() || dice.OneIn(8) && image(t, v.disk) != image(t, m.disk) {
+	if v.disk.Loose() != m.disk.Loose() || dice.OneIn(8) && Sectors(t, v.disk) != Sectors(t, m.disk) {
 		t.Fatalf("P17.5: what is written differs")
 	}
 	if dice.OneIn(16) { // in another order other Writes would stand
@@ -298,9 +273,9 @@ func lookModel(t *testing.T, dice *sample.Dice, v *Vault, m *model) {
 		}
 		keep := drawnKeep(dice, v.disk.Loose())
 		c, d := v.disk.Clone(), m.disk.Clone()
-		look(t, "Crash", c.Crash(keep), api.OK)
-		look(t, "Crash", d.Crash(keep), api.OK)
-		if image(t, c) != image(t, d) {
+		Look(t, "Crash", c.Crash(keep), api.OK)
+		Look(t, "Crash", d.Crash(keep), api.OK)
+		if Sectors(t, c) != Sectors(t, d) {
 			t.Fatalf("P17.5: what is written differs in its order")
 		}
 	}
@@ -335,28 +310,28 @@ func lookStep(t *testing.T, dice *sample.Dice, v *Vault, m *model) {
 	}
 	switch dice.Under(16) {
 	case 0, 1, 2:
-		look(t, "P17.2: Begin", v.Begin(), m.begin())
+		Look(t, "P17.2: Begin", v.Begin(), m.begin())
 	case 3, 4, 5, 6:
 		got, e := v.Alloc()
 		if want, f := m.alloc(); got != want || e != f {
 			t.Fatalf("P17.2: Alloc: %d, %d, not %d, %d", got, e, want, f)
 		}
 	case 7, 8:
-		look(t, "P17.2: Free", v.Free(n), m.freed(n))
+		Look(t, "P17.2: Free", v.Free(n), m.freed(n))
 	case 9, 10, 11, 12:
 		p := strings.Repeat(string(rune('a'+dice.Under(26))), dice.Under(499))
-		look(t, "P17.2: Put", v.Put(n, []byte(p)), m.put(n, p))
+		Look(t, "P17.2: Put", v.Put(n, []byte(p)), m.put(n, p))
 	case 13:
-		look(t, "P17.3: Commit", v.Commit(), m.commit(t))
+		Look(t, "P17.3: Commit", v.Commit(), m.commit(t))
 	case 14:
 		if dice.OneIn(3) {
-			look(t, "P17.2: Abort", v.Abort(), m.abort())
+			Look(t, "P17.2: Abort", v.Abort(), m.abort())
 		} else {
-			look(t, "P17.3: Commit", v.Commit(), m.commit(t))
+			Look(t, "P17.3: Commit", v.Commit(), m.commit(t))
 		}
 	case 15:
 		if dice.OneIn(4) {
-			look(t, "P17.4: Checkpoint", v.Checkpoint(), m.checkpoint(t))
+			Look(t, "P17.4: Checkpoint", v.Checkpoint(), m.checkpoint(t))
 		}
 	}
 }
@@ -367,7 +342,7 @@ func TestModel(t *testing.T) {
 	checkpoints, fulls, commits := 0, 0, 0
 	for range 80 {
 		sectors := 64 + dice.Under(200)
-		d, c := newDrum(t, sectors), newDrum(t, sectors)
+		d, c := NewDrum(t, sectors), NewDrum(t, sectors)
 		for range 6 {
 			frames := 4 + dice.Under(6)
 			v := opened(t, d, frames)
@@ -382,8 +357,8 @@ func TestModel(t *testing.T) {
 				continue
 			}
 			keep := drawnKeep(&dice, d.Loose())
-			look(t, "Crash", d.Crash(keep), api.OK)
-			look(t, "Crash", c.Crash(keep), api.OK)
+			Look(t, "Crash", d.Crash(keep), api.OK)
+			Look(t, "Crash", c.Crash(keep), api.OK)
 		}
 	}
 	if checkpoints < 100 || fulls < 100 || commits < 1000 {

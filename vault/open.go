@@ -1,6 +1,8 @@
 package vault
 
 import (
+	"slices"
+
 	"lectern/api"
 	"lectern/cache"
 	"lectern/drum"
@@ -52,7 +54,7 @@ func (v *Vault) open() api.Errno {
 
 // start begins the first generation, on a drum on which nothing stands.
 func (v *Vault) start() api.Errno {
-	isBlank, e := sheet.Blank(v.disk, mapPage)
+	isBlank, e := sheet.Blank(v.disk, MapPage)
 	switch {
 	case e != api.OK:
 		return e
@@ -69,25 +71,21 @@ func (v *Vault) resume(head sheet.Head) api.Errno {
 	if e != api.OK {
 		return e
 	}
-	hasMap := false
-	for i, b := range l {
-		g := group(b)
-		if !g.isRight(head.Stamp+uint64(i)+1, v.plan.Pages) {
-			return api.ErrForm
-		}
-		hasMap = hasMap || g.hasMap()
+	groups, e := ReadGroups(l, head.Stamp, v.plan.Pages)
+	if e != api.OK {
+		return e
 	}
 	if head.Gen == maxGeneration {
 		return api.ErrLimit
 	}
 	// A map that a crash tore is whole again behind the groups: one of them has it.
-	if !hasMap {
-		if _, e := v.read(mapPage); e != api.OK {
+	if !slices.ContainsFunc(groups, Group.hasMap) {
+		if _, e := v.read(MapPage); e != api.OK {
 			return e
 		}
 	}
-	for _, b := range l {
-		if e := v.do(group(b)); e != api.OK {
+	for _, g := range groups {
+		if e := v.do(g); e != api.OK {
 			return e
 		}
 	}

@@ -5,14 +5,28 @@ import (
 	"lectern/sheet"
 )
 
-// mapPage is the page whose bits say which pages are taken.
-const mapPage = 0
+// MapPage is the page whose bits say which pages are taken.
+const MapPage = 0
+
+// Marked is the pages, of so many, that a map says are taken, rising.
+func Marked(bits []byte, pages int) []int {
+	var l []int
+	for n := MapPage + 1; n < min(pages, 8*len(bits)); n++ {
+		if isMarked(bits, n) {
+			l = append(l, n)
+		}
+	}
+	return l
+}
+
+// isMarked says whether the bit of the page n is 1.
+func isMarked(bits []byte, n int) bool { return bits[n/8]>>(n%8)&1 == 1 }
 
 // page is a page's bytes.
 type page [api.PageSize]byte
 
-// has says whether the bit of the page n is 1.
-func (p *page) has(n int) bool { return p[n/8]>>(n%8)&1 == 1 }
+// has says whether it is a map that says the page n is taken.
+func (p *page) has(n int) bool { return isMarked(p[:], n) }
 
 // set makes the bit of the page n 1, or 0.
 func (p *page) set(n int, taken bool) {
@@ -25,7 +39,7 @@ func (p *page) set(n int, taken bool) {
 
 // bits is the map as it was changed so far.
 func (v *Vault) bits() page {
-	if p, ok := v.changed[mapPage]; ok {
+	if p, ok := v.changed[MapPage]; ok {
 		return p
 	}
 	return v.standing
@@ -34,13 +48,13 @@ func (v *Vault) bits() page {
 // isTaken says whether there is a page n that is taken.
 func (v *Vault) isTaken(n int) bool {
 	bits := v.bits()
-	return n > mapPage && n < v.plan.Pages && bits.has(n)
+	return n > MapPage && n < v.plan.Pages && bits.has(n)
 }
 
 // firstFree is the least page that isn't taken, and whether there is one.
 func (v *Vault) firstFree() (int, bool) {
 	bits := v.bits()
-	for n := mapPage + 1; n < v.plan.Pages; n++ {
+	for n := MapPage + 1; n < v.plan.Pages; n++ {
 		if !bits.has(n) {
 			return n, true
 		}
@@ -52,7 +66,7 @@ func (v *Vault) firstFree() (int, bool) {
 func (v *Vault) mark(n int, taken bool) {
 	bits := v.bits()
 	bits.set(n, taken)
-	v.changed[mapPage] = bits
+	v.changed[MapPage] = bits
 }
 
 // find is a taken page as it was changed so far.
@@ -79,7 +93,7 @@ func (v *Vault) read(n int) (page, api.Errno) {
 
 // know keeps what stands in a page of the drum in mind.
 func (v *Vault) know(n int, p page) {
-	if n == mapPage {
+	if n == MapPage {
 		v.standing = p
 		return
 	}

@@ -7,6 +7,7 @@ import (
 
 	"lectern/api"
 	"lectern/drum"
+	. "lectern/forge"
 	"lectern/sample"
 )
 
@@ -27,7 +28,7 @@ type act func(v *Vault, now state) api.Errno
 func alloc(v *Vault, now state) api.Errno {
 	n, e := v.Alloc()
 	if e == api.OK {
-		now[n] = whole("")
+		now[n] = Whole("")
 	}
 	return e
 }
@@ -36,7 +37,7 @@ func put(n int, p string) act {
 	return func(v *Vault, now state) api.Errno {
 		e := v.Put(n, []byte(p))
 		if e == api.OK {
-			now[n] = whole(p)
+			now[n] = Whole(p)
 		}
 		return e
 	}
@@ -81,7 +82,7 @@ func ran(t *testing.T, v *Vault, l script, known state) told {
 			}
 			continue
 		}
-		look(t, "Begin", v.Begin(), api.OK)
+		Look(t, "Begin", v.Begin(), api.OK)
 		now := maps.Clone(k.standing)
 		for j, a := range x.acts {
 			if e := a(v, now); e == api.ErrDown {
@@ -157,7 +158,7 @@ func lookFound(t *testing.T, d *drum.Drum, k told) state {
 	if !k.has(s) {
 		t.Fatalf("P17.6: found %q, neither %q nor %q", shown(s), shown(k.standing), shown(k.cut))
 	}
-	look(t, "Crash", d.Crash(nil), api.OK)
+	Look(t, "Crash", d.Crash(nil), api.OK)
 	if again := stateOf(t, opened(t, d, 4)); !maps.Equal(again, s) {
 		t.Fatalf("P17.6: found %q, and then %q", shown(s), shown(again))
 	}
@@ -169,9 +170,9 @@ func TestP17_6Cut(t *testing.T) {
 	dice := sample.Dice(1761)
 	found := map[bool]int{}
 	for fuse := 0; ; fuse++ {
-		d := newDrum(t, 200)
+		d := NewDrum(t, 200)
 		v := opened(t, d, 6)
-		look(t, "Fuse", d.Fuse(fuse), api.OK)
+		Look(t, "Fuse", d.Fuse(fuse), api.OK)
 		k := ran(t, v, fixed(), state{})
 		isCut := d.Down()
 		if isCut {
@@ -196,14 +197,14 @@ func TestP17_6Cut(t *testing.T) {
 func TestP17_6CutOpen(t *testing.T) {
 	dice := sample.Dice(1762)
 	for i := range 2 * (len(fixed()) + 1) {
-		d := newDrum(t, 200+i%2*400) // on the greater one several groups stand side by side
+		d := NewDrum(t, 200+i%2*400) // on the greater one several groups stand side by side
 		k := ran(t, opened(t, d, 6), fixed()[:i/2], state{})
-		look(t, "Crash", d.Crash(drawnKeep(&dice, d.Loose())), api.OK)
+		Look(t, "Crash", d.Crash(drawnKeep(&dice, d.Loose())), api.OK)
 		want := lookFound(t, d.Clone(), k)
 		isDown := true
 		for fuse := 0; isDown; fuse++ {
 			c := d.Clone()
-			look(t, "Fuse", c.Fuse(fuse), api.OK)
+			Look(t, "Fuse", c.Fuse(fuse), api.OK)
 			v, e := Open(c, 6)
 			isDown = c.Down()
 			if isDown && (v != nil || e != api.ErrDown) {
@@ -222,8 +223,8 @@ func TestP17_6CutOpen(t *testing.T) {
 func TestP17_6New(t *testing.T) {
 	isDown := true
 	for fuse := 0; isDown; fuse++ {
-		d := newDrum(t, 100)
-		look(t, "Fuse", d.Fuse(fuse), api.OK)
+		d := NewDrum(t, 100)
+		Look(t, "Fuse", d.Fuse(fuse), api.OK)
 		v, e := Open(d, 4)
 		isDown = d.Down()
 		if isDown && (v != nil || e != api.ErrDown) {
@@ -254,7 +255,7 @@ func drawnScript(dice *sample.Dice, s state, frames, pages int) script {
 				for now[n] != "" {
 					n++
 				}
-				now[n] = whole("")
+				now[n] = Whole("")
 				acts = append(acts, alloc)
 			case dice.OneIn(4):
 				n := taken[dice.Under(len(taken))]
@@ -262,7 +263,7 @@ func drawnScript(dice *sample.Dice, s state, frames, pages int) script {
 				acts = append(acts, free(n))
 			default:
 				n, p := taken[dice.Under(len(taken))], string(row(1+dice.Under(496)))
-				now[n] = whole(p)
+				now[n] = Whole(p)
 				acts = append(acts, put(n, p), get(n))
 			}
 		}
@@ -281,17 +282,17 @@ func TestP17_6Drawn(t *testing.T) {
 	cuts, opens := 0, 0
 	for range 150 {
 		sectors := 220 + dice.Under(400) // room for a group of five pages
-		d := newDrum(t, sectors)
+		d := NewDrum(t, sectors)
 		k := told{standing: state{}}
 		for range 12 {
 			for dice.OneIn(2) {
-				look(t, "Fuse", d.Fuse(dice.Under(sectors/2)), api.OK)
+				Look(t, "Fuse", d.Fuse(dice.Under(sectors/2)), api.OK)
 				if v, e := Open(d, 4); e == api.ErrDown {
 					opens++
 				} else if v == nil || e != api.OK {
 					t.Fatalf("P17.1: Open: %v, %d", v, e)
 				}
-				look(t, "Crash", d.Crash(drawnKeep(&dice, d.Loose())), api.OK)
+				Look(t, "Crash", d.Crash(drawnKeep(&dice, d.Loose())), api.OK)
 			}
 			frames := 4 + dice.Under(3)
 			v := opened(t, d, frames)
@@ -299,12 +300,12 @@ func TestP17_6Drawn(t *testing.T) {
 			if !k.has(s) {
 				t.Fatalf("P17.6: found %q, neither %q nor %q", shown(s), shown(k.standing), shown(k.cut))
 			}
-			look(t, "Fuse", d.Fuse(dice.Under(400)), api.OK)
+			Look(t, "Fuse", d.Fuse(dice.Under(400)), api.OK)
 			k = ran(t, v, drawnScript(&dice, s, frames, v.Pages()), s)
 			if k.cut != nil {
 				cuts++
 			}
-			look(t, "Crash", d.Crash(drawnKeep(&dice, d.Loose())), api.OK)
+			Look(t, "Crash", d.Crash(drawnKeep(&dice, d.Loose())), api.OK)
 			if v.fault() == api.ErrDown {
 				lookRefused(t, v, api.ErrDown) // the power came back, but not for this vault
 			}
@@ -324,17 +325,17 @@ func TestErrDown(t *testing.T) {
 		{"Get", func(v *Vault) api.Errno { return get(2)(v, state{}) }},
 		{"Commit", commit},
 	} {
-		d := newDrum(t, 200)
+		d := NewDrum(t, 200)
 		v := allocated(t, d, 4, 2)
-		look(t, "Checkpoint", v.Checkpoint(), api.OK)
+		Look(t, "Checkpoint", v.Checkpoint(), api.OK)
 		v = opened(t, d, 4)
-		look(t, "Begin", v.Begin(), api.OK)
-		look(t, "Put", v.Put(1, []byte("x")), api.OK)
-		look(t, "Fuse", d.Fuse(0), api.OK)
-		look(t, l.what, l.act(v), api.ErrDown)
+		Look(t, "Begin", v.Begin(), api.OK)
+		Look(t, "Put", v.Put(1, []byte("x")), api.OK)
+		Look(t, "Fuse", d.Fuse(0), api.OK)
+		Look(t, l.what, l.act(v), api.ErrDown)
 		lookRefused(t, v, api.ErrDown)
-		look(t, "Crash", d.Crash(nil), api.OK)
+		Look(t, "Crash", d.Crash(nil), api.OK)
 		lookRefused(t, v, api.ErrDown)
-		lookFound(t, d, told{standing: state{1: whole("\x01"), 2: whole("\x02")}})
+		lookFound(t, d, told{standing: state{1: Whole("\x01"), 2: Whole("\x02")}})
 	}
 }

@@ -8,25 +8,10 @@ import (
 
 	"lectern/api"
 	"lectern/drum"
+	. "lectern/forge"
 	"lectern/sample"
 	"lectern/sheet"
 )
-
-// look looks what a call answered.
-func look(t *testing.T, what string, got, want api.Errno) {
-	t.Helper()
-	if got != want {
-		t.Fatalf("%s: %d, not %d", what, got, want)
-	}
-}
-
-// newDrum is a drum on which nothing stands.
-func newDrum(t *testing.T, sectors int) *drum.Drum {
-	t.Helper()
-	d, e := drum.New(sectors)
-	look(t, "drum's New", e, api.OK)
-	return d
-}
 
 // opened is the vault on a drum; an opening does no more steps than it may.
 func opened(t *testing.T, d *drum.Drum, frames int) *Vault {
@@ -45,34 +30,14 @@ func opened(t *testing.T, d *drum.Drum, frames int) *Vault {
 // lookNoOpen looks that an opening is refused, and writes nothing.
 func lookNoOpen(t *testing.T, d *drum.Drum, frames int, want api.Errno) {
 	t.Helper()
-	loose, before := d.Loose(), image(t, d)
+	loose, before := d.Loose(), Sectors(t, d)
 	if v, e := Open(d, frames); v != nil || e != want {
 		t.Fatalf("P17.1: Open: %v, %d, not %d", v, e, want)
 	}
-	if d.Loose() != loose || image(t, d) != before {
+	if d.Loose() != loose || Sectors(t, d) != before {
 		t.Fatalf("P17.1: an Open that is refused writes")
 	}
 }
-
-// image is what stands on all sectors of a drum, loose or not; the drum's own steps don't change. Of a drum without power it is nothing.
-func image(t *testing.T, d *drum.Drum) string {
-	t.Helper()
-	if d == nil || d.Down() {
-		return ""
-	}
-	c := d.Clone()
-	look(t, "drum's Fuse", c.Fuse(1<<40), api.OK)
-	var l []byte
-	for n := range c.Sectors() {
-		b, e := c.Read(n)
-		look(t, "drum's Read", e, api.OK)
-		l = append(l, b...)
-	}
-	return string(l)
-}
-
-// whole is a page's bytes: p, and bytes 0 behind.
-func whole(p string) string { return p + string(make([]byte, 496-len(p))) }
 
 // row is so many bytes, none of them 0.
 func row(size int) []byte {
@@ -85,7 +50,7 @@ func row(size int) []byte {
 
 func lookGet(t *testing.T, v *Vault, n int, want string) {
 	t.Helper()
-	if p, e := v.Get(n); string(p) != whole(want) || e != api.OK {
+	if p, e := v.Get(n); string(p) != Whole(want) || e != api.OK {
 		t.Fatalf("P17.2: Get(%d): %q, %d, not %q", n, p, e, want)
 	}
 }
@@ -128,15 +93,15 @@ func lookNumbers(t *testing.T, v *Vault, gen, groups int, busy bool) {
 // lookRefused looks what all methods that answer an error answer, some of them at drawn pages.
 func lookRefused(t *testing.T, v *Vault, want api.Errno) {
 	t.Helper()
-	look(t, "Begin", v.Begin(), want)
-	look(t, "Abort", v.Abort(), want)
-	look(t, "Commit", v.Commit(), want)
-	look(t, "Checkpoint", v.Checkpoint(), want)
+	Look(t, "Begin", v.Begin(), want)
+	Look(t, "Abort", v.Abort(), want)
+	Look(t, "Commit", v.Commit(), want)
+	Look(t, "Checkpoint", v.Checkpoint(), want)
 	lookNoAlloc(t, v, want)
 	for _, n := range []int{0, 1, 2, -1, 9, math.MinInt, math.MaxInt} {
-		look(t, "Free", v.Free(n), want)
-		look(t, "Put", v.Put(n, nil), want)
-		look(t, "Put of too much", v.Put(n, row(497)), want)
+		Look(t, "Free", v.Free(n), want)
+		Look(t, "Put", v.Put(n, nil), want)
+		Look(t, "Put of too much", v.Put(n, row(497)), want)
 		lookNoGet(t, v, n, want)
 	}
 }
@@ -146,22 +111,22 @@ func allocated(t *testing.T, d *drum.Drum, frames, pages int) *Vault {
 	t.Helper()
 	v := opened(t, d, frames)
 	for n := 1; n <= pages; n++ {
-		look(t, "Begin", v.Begin(), api.OK)
+		Look(t, "Begin", v.Begin(), api.OK)
 		lookAlloc(t, v, n)
-		look(t, "Put", v.Put(n, []byte{byte(n)}), api.OK)
-		look(t, "Commit", v.Commit(), api.OK)
+		Look(t, "Put", v.Put(n, []byte{byte(n)}), api.OK)
+		Look(t, "Commit", v.Commit(), api.OK)
 	}
 	return v
 }
 
 func TestExamples(t *testing.T) {
-	d := newDrum(t, 100)
+	d := NewDrum(t, 100)
 	v := opened(t, d, 4)
-	look(t, "Begin", v.Begin(), api.OK)
+	Look(t, "Begin", v.Begin(), api.OK)
 	lookAlloc(t, v, 1)
-	look(t, "Put", v.Put(1, []byte("a")), api.OK)
-	look(t, "Commit", v.Commit(), api.OK)
-	look(t, "Crash", d.Crash(nil), api.OK)
+	Look(t, "Put", v.Put(1, []byte("a")), api.OK)
+	Look(t, "Commit", v.Commit(), api.OK)
+	Look(t, "Crash", d.Crash(nil), api.OK)
 	v = opened(t, d, 4)
 	lookTaken(t, v, 1)
 	lookGet(t, v, 1, "a")
@@ -208,79 +173,79 @@ func TestP1Zero(t *testing.T) {
 
 // TestP17_2Arguments: pages that are none, or aren't taken; what is refused changes nothing.
 func TestP17_2Arguments(t *testing.T) {
-	d := newDrum(t, 100) // pages 0 to 8
+	d := NewDrum(t, 100) // pages 0 to 8
 	v := allocated(t, d, 8, 3)
-	look(t, "Begin", v.Begin(), api.OK)
-	look(t, "Free", v.Free(2), api.OK)
-	before, steps := image(t, d), d.Steps()
+	Look(t, "Begin", v.Begin(), api.OK)
+	Look(t, "Free", v.Free(2), api.OK)
+	before, steps := Sectors(t, d), d.Steps()
 	for _, n := range []int{0, 2, 4, 8, 9, 10, -1, -8, 496, 496 * 8, 5000, 1 << 32, 1<<32 + 1, math.MinInt, math.MaxInt} {
-		look(t, "Free", v.Free(n), api.ErrArg)
-		look(t, "Put", v.Put(n, nil), api.ErrArg)
-		look(t, "Put of too much", v.Put(n, row(497)), api.ErrArg)
+		Look(t, "Free", v.Free(n), api.ErrArg)
+		Look(t, "Put", v.Put(n, nil), api.ErrArg)
+		Look(t, "Put of too much", v.Put(n, row(497)), api.ErrArg)
 		lookNoGet(t, v, n, api.ErrArg)
 	}
 	for _, size := range []int{497, 498, 1000, 100000} {
-		look(t, "Put of too much", v.Put(1, row(size)), api.ErrLong)
+		Look(t, "Put of too much", v.Put(1, row(size)), api.ErrLong)
 	}
-	look(t, "Begin in a transaction", v.Begin(), api.ErrState)
-	look(t, "Checkpoint in a transaction", v.Checkpoint(), api.ErrState)
-	if image(t, d) != before || d.Steps() != steps {
+	Look(t, "Begin in a transaction", v.Begin(), api.ErrState)
+	Look(t, "Checkpoint in a transaction", v.Checkpoint(), api.ErrState)
+	if Sectors(t, d) != before || d.Steps() != steps {
 		t.Errorf("P17.2: what is refused does %d steps", d.Steps()-steps)
 	}
 	lookTaken(t, v, 1, 3)
 	lookGet(t, v, 1, "\x01")
 	lookGet(t, v, 3, "\x03")
 	lookNumbers(t, v, 3, 1, true) // a log of 25 sectors has room for one group of two pages
-	look(t, "Put of a whole page", v.Put(1, row(496)), api.OK)
+	Look(t, "Put of a whole page", v.Put(1, row(496)), api.OK)
 	lookGet(t, v, 1, string(row(496)))
-	look(t, "Put of nothing", v.Put(1, nil), api.OK)
+	Look(t, "Put of nothing", v.Put(1, nil), api.OK)
 	lookGet(t, v, 1, "")
-	look(t, "Commit", v.Commit(), api.OK)
+	Look(t, "Commit", v.Commit(), api.OK)
 	lookNoGet(t, v, 2, api.ErrArg)
 	lookGet(t, v, 1, "")
 }
 
 // TestP17_2State: what is asked outside of a transaction.
 func TestP17_2State(t *testing.T) {
-	v := allocated(t, newDrum(t, 100), 8, 2)
+	v := allocated(t, NewDrum(t, 100), 8, 2)
 	for range 2 {
 		lookNoAlloc(t, v, api.ErrState)
 		for _, n := range []int{0, 1, 2, 3, -1, math.MaxInt} {
-			look(t, "Free", v.Free(n), api.ErrState)
-			look(t, "Put", v.Put(n, nil), api.ErrState)
-			look(t, "Put of too much", v.Put(n, row(497)), api.ErrState)
+			Look(t, "Free", v.Free(n), api.ErrState)
+			Look(t, "Put", v.Put(n, nil), api.ErrState)
+			Look(t, "Put of too much", v.Put(n, row(497)), api.ErrState)
 		}
-		look(t, "Commit", v.Commit(), api.ErrState)
-		look(t, "Abort", v.Abort(), api.ErrState)
+		Look(t, "Commit", v.Commit(), api.ErrState)
+		Look(t, "Abort", v.Abort(), api.ErrState)
 		lookGet(t, v, 1, "\x01")
 		lookNoGet(t, v, 3, api.ErrArg)
 		lookTaken(t, v, 1, 2)
 		lookNumbers(t, v, 2, 1, false)
-		look(t, "Begin", v.Begin(), api.OK)
-		look(t, "Abort", v.Abort(), api.OK)
+		Look(t, "Begin", v.Begin(), api.OK)
+		Look(t, "Abort", v.Abort(), api.OK)
 	}
 }
 
 // TestP17_2Alloc: the least page that isn't taken, with bytes 0; what stood there is gone.
 func TestP17_2Alloc(t *testing.T) {
-	d := newDrum(t, 140) // pages 0 to 11
+	d := NewDrum(t, 140) // pages 0 to 11
 	v := allocated(t, d, 8, 11)
-	look(t, "Begin", v.Begin(), api.OK)
+	Look(t, "Begin", v.Begin(), api.OK)
 	lookNoAlloc(t, v, api.ErrFull)
-	look(t, "Free", v.Free(5), api.OK)
-	look(t, "Free", v.Free(2), api.OK)
+	Look(t, "Free", v.Free(5), api.OK)
+	Look(t, "Free", v.Free(2), api.OK)
 	lookTaken(t, v, 1, 3, 4, 6, 7, 8, 9, 10, 11)
 	lookAlloc(t, v, 2)
 	lookGet(t, v, 2, "")
 	lookAlloc(t, v, 5)
 	lookGet(t, v, 5, "")
 	lookNoAlloc(t, v, api.ErrFull)
-	look(t, "Put", v.Put(5, []byte("five")), api.OK)
-	look(t, "Free", v.Free(5), api.OK)
+	Look(t, "Put", v.Put(5, []byte("five")), api.OK)
+	Look(t, "Free", v.Free(5), api.OK)
 	lookNoGet(t, v, 5, api.ErrArg)
 	lookAlloc(t, v, 5)
 	lookGet(t, v, 5, "")
-	look(t, "Commit", v.Commit(), api.OK)
+	Look(t, "Commit", v.Commit(), api.OK)
 	for _, v := range []*Vault{v, opened(t, crashed(t, d, nil), 4)} {
 		lookTaken(t, v, 1, 2, 3, 4, 5, 6, 7, 8, 9, 10, 11)
 		for n := 1; n <= 11; n++ {
@@ -295,36 +260,36 @@ func TestP17_2Alloc(t *testing.T) {
 
 // TestP17_2Freed: a page that was free behind a Commit has bytes 0 when it comes again.
 func TestP17_2Freed(t *testing.T) {
-	d := newDrum(t, 100)
+	d := NewDrum(t, 100)
 	v := allocated(t, d, 8, 3)
 	lookGet(t, v, 2, "\x02")
-	look(t, "Begin", v.Begin(), api.OK)
-	look(t, "Free", v.Free(2), api.OK)
-	look(t, "Commit", v.Commit(), api.OK)
+	Look(t, "Begin", v.Begin(), api.OK)
+	Look(t, "Free", v.Free(2), api.OK)
+	Look(t, "Commit", v.Commit(), api.OK)
 	lookTaken(t, v, 1, 3)
-	look(t, "Begin", v.Begin(), api.OK)
+	Look(t, "Begin", v.Begin(), api.OK)
 	lookAlloc(t, v, 2)
 	lookGet(t, v, 2, "")
-	look(t, "Commit", v.Commit(), api.OK)
+	Look(t, "Commit", v.Commit(), api.OK)
 	lookGet(t, v, 2, "")
 	lookGet(t, opened(t, d, 4), 2, "")
 }
 
 // TestP17_2Abort: the state is as it was at Begin, and as it stands on the drum; nothing is written.
 func TestP17_2Abort(t *testing.T) {
-	d := newDrum(t, 100)
+	d := NewDrum(t, 100)
 	v := allocated(t, d, 8, 3)
-	before, steps := image(t, d), d.Steps()
-	look(t, "Begin", v.Begin(), api.OK)
-	look(t, "Put", v.Put(1, []byte("x")), api.OK)
-	look(t, "Free", v.Free(2), api.OK)
-	look(t, "Free", v.Free(3), api.OK)
+	before, steps := Sectors(t, d), d.Steps()
+	Look(t, "Begin", v.Begin(), api.OK)
+	Look(t, "Put", v.Put(1, []byte("x")), api.OK)
+	Look(t, "Free", v.Free(2), api.OK)
+	Look(t, "Free", v.Free(3), api.OK)
 	lookAlloc(t, v, 2)
 	lookAlloc(t, v, 3)
 	lookAlloc(t, v, 4)
-	look(t, "Put", v.Put(4, []byte("y")), api.OK)
-	look(t, "Abort", v.Abort(), api.OK)
-	if image(t, d) != before || d.Steps() != steps {
+	Look(t, "Put", v.Put(4, []byte("y")), api.OK)
+	Look(t, "Abort", v.Abort(), api.OK)
+	if Sectors(t, d) != before || d.Steps() != steps {
 		t.Errorf("P17.5: Abort does %d steps", d.Steps()-steps)
 	}
 	for _, v := range []*Vault{v, opened(t, d.Clone(), 8)} {
@@ -332,7 +297,7 @@ func TestP17_2Abort(t *testing.T) {
 		for n := 1; n <= 3; n++ {
 			lookGet(t, v, n, string([]byte{byte(n)}))
 		}
-		look(t, "Begin", v.Begin(), api.OK)
+		Look(t, "Begin", v.Begin(), api.OK)
 		lookAlloc(t, v, 4)
 		lookGet(t, v, 4, "")
 	}
@@ -340,12 +305,12 @@ func TestP17_2Abort(t *testing.T) {
 
 // TestP17_2Memory: what is handed in is neither changed nor kept; what is answered is new memory, spare room too.
 func TestP17_2Memory(t *testing.T) {
-	d := newDrum(t, 100)
+	d := NewDrum(t, 100)
 	v := allocated(t, d, 8, 2)
 	spoil := func() {
 		for n := 1; n <= 2; n++ {
 			p, e := v.Get(n)
-			look(t, "Get", e, api.OK)
+			Look(t, "Get", e, api.OK)
 			p = p[:cap(p)]
 			for i := range p {
 				p[i] = 0xee
@@ -360,17 +325,17 @@ func TestP17_2Memory(t *testing.T) {
 	spoil()
 	lookGet(t, v, 1, "\x01")
 	lookTaken(t, v, 1, 2)
-	look(t, "Begin", v.Begin(), api.OK)
+	Look(t, "Begin", v.Begin(), api.OK)
 	p := append(make([]byte, 0, 600), "abc"...)
 	spare := p[:600]
-	look(t, "Put", v.Put(1, p), api.OK)
+	Look(t, "Put", v.Put(1, p), api.OK)
 	if string(p) != "abc" || !bytes.Equal(spare[3:], make([]byte, 597)) {
 		t.Errorf("P17.2: Put makes %q of what is handed in", spare)
 	}
 	copy(spare, row(600))
 	spoil()
 	lookGet(t, v, 1, "abc")
-	look(t, "Commit", v.Commit(), api.OK)
+	Look(t, "Commit", v.Commit(), api.OK)
 	spoil()
 	lookGet(t, v, 1, "abc")
 	lookGet(t, v, 2, "\x02")
@@ -380,14 +345,14 @@ func TestP17_2Memory(t *testing.T) {
 
 // TestP17_2Bits: which bit of the map is which page's.
 func TestP17_2Bits(t *testing.T) {
-	d := newDrum(t, 16384)
+	d := NewDrum(t, 16384)
 	v := opened(t, d, 1024)
 	if v.Pages() != 1535 {
 		t.Fatalf("P17.4: Pages: %d", v.Pages())
 	}
 	var want page
 	for n := 1; n < 1535; {
-		look(t, "Begin", v.Begin(), api.OK)
+		Look(t, "Begin", v.Begin(), api.OK)
 		for range 300 {
 			if n == 1535 {
 				break
@@ -396,22 +361,22 @@ func TestP17_2Bits(t *testing.T) {
 			want[n/8] |= 1 << (n % 8)
 			n++
 		}
-		look(t, "Commit", v.Commit(), api.OK)
+		Look(t, "Commit", v.Commit(), api.OK)
 		lookMap(t, d, want)
 	}
-	look(t, "Begin", v.Begin(), api.OK)
+	Look(t, "Begin", v.Begin(), api.OK)
 	lookNoAlloc(t, v, api.ErrFull)
 	for _, n := range []int{1534, 8, 7, 1, 1000} {
-		look(t, "Free", v.Free(n), api.OK)
+		Look(t, "Free", v.Free(n), api.OK)
 		want[n/8] &^= 1 << (n % 8)
 	}
-	look(t, "Commit", v.Commit(), api.OK)
+	Look(t, "Commit", v.Commit(), api.OK)
 	lookMap(t, d, want)
 	taken := v.Taken()
 	if len(taken) != 1529 || !slices.IsSorted(taken) || slices.Contains(taken, 7) || taken[0] != 2 || taken[1528] != 1533 {
 		t.Errorf("P17.2: Taken: %v", taken)
 	}
-	look(t, "Begin", v.Begin(), api.OK)
+	Look(t, "Begin", v.Begin(), api.OK)
 	for _, n := range []int{1, 7, 8, 1000, 1534} {
 		lookAlloc(t, v, n)
 	}
@@ -428,14 +393,14 @@ func lookMap(t *testing.T, d *drum.Drum, want page) {
 // TestP17_2Frames: there may be at most frames - 1 changed pages, the map among them.
 func TestP17_2Frames(t *testing.T) {
 	for _, frames := range []int{4, 5, 9, 40} {
-		v := allocated(t, newDrum(t, 2000), 1024, 100)
+		v := allocated(t, NewDrum(t, 2000), 1024, 100)
 		v = opened(t, v.disk, frames)
 		lookPuts(t, v, frames)
 		lookAllocs(t, v, frames)
 		lookFrees(t, v, frames)
 	}
-	v := opened(t, newDrum(t, 16384), 1024)
-	look(t, "Begin", v.Begin(), api.OK)
+	v := opened(t, NewDrum(t, 16384), 1024)
+	Look(t, "Begin", v.Begin(), api.OK)
 	for n := range 1022 {
 		lookAlloc(t, v, n+1)
 	}
@@ -445,80 +410,80 @@ func TestP17_2Frames(t *testing.T) {
 // lookPuts changes pages by Put alone, till there may be no more, and then frees some.
 func lookPuts(t *testing.T, v *Vault, frames int) {
 	t.Helper()
-	look(t, "Begin", v.Begin(), api.OK)
+	Look(t, "Begin", v.Begin(), api.OK)
 	for n := 1; n <= frames-1; n++ {
-		look(t, "Put", v.Put(n, []byte("p")), api.OK)
+		Look(t, "Put", v.Put(n, []byte("p")), api.OK)
 	}
-	look(t, "Put of one page more", v.Put(frames, nil), api.ErrLimit)
-	look(t, "Put of too much", v.Put(frames, row(497)), api.ErrLong)
-	look(t, "Put of no page", v.Put(101, nil), api.ErrArg)
-	look(t, "Put of a changed page", v.Put(1, []byte("q")), api.OK)
-	look(t, "Free of another page", v.Free(frames), api.ErrLimit)
-	look(t, "Free of no page", v.Free(101), api.ErrArg)
+	Look(t, "Put of one page more", v.Put(frames, nil), api.ErrLimit)
+	Look(t, "Put of too much", v.Put(frames, row(497)), api.ErrLong)
+	Look(t, "Put of no page", v.Put(101, nil), api.ErrArg)
+	Look(t, "Put of a changed page", v.Put(1, []byte("q")), api.OK)
+	Look(t, "Free of another page", v.Free(frames), api.ErrLimit)
+	Look(t, "Free of no page", v.Free(101), api.ErrArg)
 	lookNoAlloc(t, v, api.ErrLimit)
 	lookGet(t, v, frames, string([]byte{byte(frames)}))
-	look(t, "Free of a changed page", v.Free(1), api.OK) // the map in its place
-	look(t, "Put of one page more", v.Put(frames, nil), api.ErrLimit)
+	Look(t, "Free of a changed page", v.Free(1), api.OK) // the map in its place
+	Look(t, "Put of one page more", v.Put(frames, nil), api.ErrLimit)
 	lookNoAlloc(t, v, api.ErrLimit)
-	look(t, "Free of another page", v.Free(frames), api.OK)
-	look(t, "Free of a changed page", v.Free(2), api.OK)
+	Look(t, "Free of another page", v.Free(frames), api.OK)
+	Look(t, "Free of a changed page", v.Free(2), api.OK)
 	lookAlloc(t, v, 1)
 	lookNoAlloc(t, v, api.ErrLimit)
-	look(t, "Abort", v.Abort(), api.OK)
+	Look(t, "Abort", v.Abort(), api.OK)
 	lookGet(t, v, 1, "\x01")
 }
 
 // lookAllocs changes pages by Alloc alone, till there may be no more.
 func lookAllocs(t *testing.T, v *Vault, frames int) {
 	t.Helper()
-	look(t, "Begin", v.Begin(), api.OK)
+	Look(t, "Begin", v.Begin(), api.OK)
 	for n := range frames - 2 {
 		lookAlloc(t, v, 101+n)
 	}
 	lookNoAlloc(t, v, api.ErrLimit)
-	look(t, "Put of one page more", v.Put(1, nil), api.ErrLimit)
-	look(t, "Free", v.Free(101), api.OK)
-	look(t, "Put of one page more", v.Put(1, nil), api.OK)
+	Look(t, "Put of one page more", v.Put(1, nil), api.ErrLimit)
+	Look(t, "Free", v.Free(101), api.OK)
+	Look(t, "Put of one page more", v.Put(1, nil), api.OK)
 	lookNoAlloc(t, v, api.ErrLimit)
-	look(t, "Free", v.Free(1), api.OK)
-	look(t, "Free", v.Free(2), api.OK)
+	Look(t, "Free", v.Free(1), api.OK)
+	Look(t, "Free", v.Free(2), api.OK)
 	lookAlloc(t, v, 1)
 	lookNoAlloc(t, v, api.ErrLimit)
-	look(t, "Abort", v.Abort(), api.OK)
+	Look(t, "Abort", v.Abort(), api.OK)
 }
 
 // lookFrees frees all pages: but for the map none is changed.
 func lookFrees(t *testing.T, v *Vault, frames int) {
 	t.Helper()
-	look(t, "Begin", v.Begin(), api.OK)
+	Look(t, "Begin", v.Begin(), api.OK)
 	for n := 1; n <= 100; n++ {
-		look(t, "Free", v.Free(n), api.OK)
+		Look(t, "Free", v.Free(n), api.OK)
 	}
 	for n := range frames - 2 {
 		lookAlloc(t, v, 1+n)
 	}
 	lookNoAlloc(t, v, api.ErrLimit)
-	look(t, "Abort", v.Abort(), api.OK)
+	Look(t, "Abort", v.Abort(), api.OK)
 }
 
 // TestP6: ErrFull and ErrLimit come of their bounds alone; what was committed is there, and no page is lost.
 func TestP6(t *testing.T) {
 	dice := sample.Dice(176)
 	for _, sectors := range []int{88, 89, 100, 300} {
-		d := newDrum(t, sectors)
+		d := NewDrum(t, sectors)
 		v := opened(t, d, 4)
 		for range 20 {
 			var taken []int
 			for e := api.OK; e == api.OK; {
-				look(t, "Begin", v.Begin(), api.OK)
+				Look(t, "Begin", v.Begin(), api.OK)
 				var n int
 				n, e = v.Alloc()
 				if e == api.OK {
 					taken = append(taken, n)
-					look(t, "P6: Commit", v.Commit(), api.OK)
+					Look(t, "P6: Commit", v.Commit(), api.OK)
 				} else {
-					look(t, "P6: Alloc", e, api.ErrFull)
-					look(t, "Abort", v.Abort(), api.OK)
+					Look(t, "P6: Alloc", e, api.ErrFull)
+					Look(t, "Abort", v.Abort(), api.OK)
 				}
 			}
 			if len(taken) != v.Pages()-1 {
@@ -526,15 +491,15 @@ func TestP6(t *testing.T) {
 			}
 			lookTaken(t, v, taken...)
 			if dice.OneIn(2) {
-				look(t, "Crash", d.Crash(bits(dice.Under(1<<30), 30)), api.OK)
+				Look(t, "Crash", d.Crash(bits(dice.Under(1<<30), 30)), api.OK)
 				v = opened(t, d, 4)
 				lookTaken(t, v, taken...)
 			}
 			for len(taken) > 0 {
 				i := dice.Under(len(taken))
-				look(t, "Begin", v.Begin(), api.OK)
-				look(t, "P6: Free", v.Free(taken[i]), api.OK)
-				look(t, "P6: Commit", v.Commit(), api.OK)
+				Look(t, "Begin", v.Begin(), api.OK)
+				Look(t, "P6: Free", v.Free(taken[i]), api.OK)
+				Look(t, "P6: Commit", v.Commit(), api.OK)
 				taken = slices.Delete(taken, i, i+1)
 			}
 			lookTaken(t, v)
@@ -546,7 +511,7 @@ func TestP6(t *testing.T) {
 func crashed(t *testing.T, d *drum.Drum, keep []bool) *drum.Drum {
 	t.Helper()
 	c := d.Clone()
-	look(t, "Crash", c.Crash(keep), api.OK)
+	Look(t, "Crash", c.Crash(keep), api.OK)
 	return c
 }
 
