@@ -96,16 +96,20 @@ func Apart(before, after map[string]string) int {
 	return count
 }
 
-// DrawnEdit is an edit that is mostly one of d's nodes.
-func DrawnEdit(dice *sample.Dice, d api.Node) edit.Edit {
-	var paths [][]int
-	var names []api.Name
+// Addresses is the paths of all nodes of a tree, and the names of all their attributes.
+func Addresses(d api.Node) (paths [][]int, names []api.Name) {
 	for path, n := range tree.All(d) {
 		paths = append(paths, path)
 		for _, a := range n.Attrs {
 			names = append(names, a.Name)
 		}
 	}
+	return paths, names
+}
+
+// DrawnEdit is an edit that is mostly one of d's nodes.
+func DrawnEdit(dice *sample.Dice, d api.Node) edit.Edit {
+	paths, names := Addresses(d)
 	e := edit.Edit{Op: 1 + dice.Under(6), At: paths[dice.Under(len(paths))], Text: dice.Text(), Node: dice.Node()}
 	e.Name = api.Name{URI: dice.Of("", "u", "v", "\xff"), Local: dice.Of("a", "b", "c", "")}
 	if len(names) > 0 && dice.OneIn(2) {
